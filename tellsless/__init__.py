@@ -1,0 +1,1 @@
+"""Tellsless: houses that answer, and who could answer in their place."""

@@ -1,0 +1,50 @@
+"""[0.2]: integers and fractions, as the package judges them and reckons with them."""
+
+import unittest
+
+from tellsless.ratios import (
+    added, are_shares, divided, is_chance, is_fraction, is_number, is_share, multiplied, reduced, total,
+)
+from tests.things import HALF, NOUGHT, ONE, strange
+
+
+class Judged(unittest.TestCase):
+    def test_fractions(self):
+        for thing in (NOUGHT, ONE, HALF, (-1, 2), (5, 1), (-7, 3), (10 ** 29, 10 ** 29 - 1)):
+            self.assertTrue(is_fraction(thing), thing)
+        for thing in strange() + [(0, 2), (2, 2), (2, 4), (1, 0), (0, 0), (1, -1), (0, -1), (1, -2), [1, 2], (1,), (1, 2, 3),
+                                  (True, 1), (1, True), (1, None), ("1", 2)]:
+            self.assertIs(is_fraction(thing), False)
+            self.assertIs(is_chance(thing), False)
+            self.assertIs(is_share(thing), False)
+
+    def test_chances_and_shares(self):
+        self.assertEqual([is_chance(thing) for thing in (NOUGHT, HALF, ONE, (-1, 2), (3, 2))], [True, True, True, False, False])
+        self.assertEqual([is_share(thing) for thing in (NOUGHT, HALF, ONE, (-1, 2), (3, 2))], [False, True, True, False, False])
+        self.assertTrue(are_shares((HALF, (1, 3), (1, 6))))
+        self.assertTrue(are_shares([ONE]))
+        for things in ((), (HALF,), (HALF, HALF, HALF), (ONE, NOUGHT), ((3, 2), (-1, 2)), (ONE, None)):
+            self.assertFalse(are_shares(things))
+
+    def test_integers(self):
+        self.assertTrue(is_number(1, 1, 5))
+        self.assertTrue(is_number(5, 1, 5))
+        for thing in [thing for thing in strange() if thing is not True and not isinstance(thing, int)] + [True, False, 0, 6]:
+            self.assertFalse(is_number(thing, 1, 5))
+
+
+class Reckoned(unittest.TestCase):
+    def test_lowest_terms(self):
+        self.assertEqual(reduced(6, 4), (3, 2))
+        self.assertEqual(reduced(0, 7), NOUGHT)
+        self.assertEqual(reduced(-4, 2), (-2, 1))
+        self.assertEqual(added((1, 6), (1, 3)), HALF)
+        self.assertEqual(added((-1, 2), HALF), NOUGHT)
+        self.assertEqual(multiplied((2, 3), (3, 4)), HALF)
+        self.assertEqual(divided((1, 3), (2, 3)), HALF)
+        self.assertEqual(total([]), NOUGHT)
+        self.assertEqual(total([HALF, (1, 3), (1, 6)]), ONE)
+
+
+if __name__ == "__main__":
+    unittest.main()
