@@ -1,6 +1,6 @@
 """Houses: what stands before whom, who asks and is answered by chances."""
 
-from tellsless.errors import BadHouse, NoPath, TooLarge
+from tellsless.errors import BadHouse, NoPath, NotAlike, TooLarge
 from tellsless.ratios import ONE, are_nought, is_number
 from tellsless.trees import answers_in, check_tree, outline, rounds_in, standings
 
@@ -30,6 +30,12 @@ def made_house(worlds, tree):
     house.worlds = worlds
     house.tree = tree
     return house
+
+
+def check_alike(house, other):
+    """Raises NotAlike unless two houses have as many worlds."""
+    if house.worlds != other.worlds:
+        raise NotAlike()
 
 
 def paths(house):

@@ -39,6 +39,25 @@ def are_shares(things):
     return all([is_share(thing) for thing in things]) and total(things) == ONE
 
 
+def are_fractions(thing, many):
+    """Whether a thing is a tuple of so many fractions."""
+    if not isinstance(thing, tuple) or len(thing) != many:
+        return False
+    return all([is_fraction(fraction) for fraction in thing])
+
+
+def are_chances(thing, many):
+    """Whether a thing is a tuple of so many chances."""
+    if not isinstance(thing, tuple) or len(thing) != many:
+        return False
+    return all([is_chance(chance) for chance in thing])
+
+
+def is_prior(thing, worlds):
+    """Whether a thing is a tuple of a chance for each world, adding up to ONE."""
+    return are_chances(thing, worlds) and total(thing) == ONE
+
+
 def are_nought(weights):
     """Whether all weights are NOUGHT."""
     return all([weight == NOUGHT for weight in weights])
@@ -66,11 +85,17 @@ def divided(first, second):
 
 
 def total(fractions):
-    """The sum of all fractions of a list or tuple."""
-    result = NOUGHT
-    for fraction in fractions:
-        result = added(result, fraction)
-    return result
+    """The sum of all fractions of a list or tuple.
+
+    They are added by pairs, and their sums again: so great numbers come late, and are few.
+    """
+    sums = list(fractions)
+    while len(sums) > 1:
+        pairs = [added(first, second) for first, second in zip(sums[::2], sums[1::2])]
+        sums = pairs + sums[2 * len(pairs):]
+    if len(sums) == 0:
+        return NOUGHT
+    return sums[0]
 
 
 def added_weights(first, second):
@@ -83,9 +108,11 @@ def multiplied_weights(first, second):
     return tuple([multiplied(one, other) for one, other in zip(first, second)])
 
 
+def scaled_weights(share, weights):
+    """The products, world by world, of a fraction and a tuple of weights."""
+    return tuple([multiplied(share, weight) for weight in weights])
+
+
 def total_weights(rows, worlds):
     """The sums, world by world, of all tuples of weights of a list or tuple."""
-    result = (NOUGHT,) * worlds
-    for weights in rows:
-        result = added_weights(result, weights)
-    return result
+    return tuple([total([weights[world] for weights in rows]) for world in range(worlds)])

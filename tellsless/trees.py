@@ -1,7 +1,7 @@
 """Nodes, of which houses are made: judged and measured."""
 
 from tellsless.errors import BadHouse
-from tellsless.ratios import ONE, is_chance, is_number, total_weights
+from tellsless.ratios import ONE, are_chances, is_number, total_weights
 
 MOST_QUESTIONS = 5
 MOST_WORDS = 12
@@ -21,10 +21,7 @@ def is_answer(thing, worlds):
     """Whether a thing is a triple of a word, a chance for each world, and anything."""
     if not isinstance(thing, tuple) or len(thing) != 3 or not is_word(thing[0]):
         return False
-    weights = thing[1]
-    if not isinstance(weights, tuple) or len(weights) != worlds:
-        return False
-    return all([is_chance(weight) for weight in weights])
+    return are_chances(thing[1], worlds)
 
 
 def is_ascending(rows):

@@ -76,6 +76,8 @@ class Judged(unittest.TestCase):
         self.assertEqual(self.place(1, ((),)), (0,))
         self.assertEqual(self.place(1, ((SURE,), ())), (1,))
         self.assertEqual(self.place(1, ((SURE,), 5)), (1,))
+        # Also behind a hopeless answer, where no answers add up, too.
+        self.assertEqual(self.place(1, ((((0,), (NOUGHT,), ((),)), ((1,), (ONE,), ())),)), (0, 0, 0))
 
     def test_answers(self):
         wrong = [

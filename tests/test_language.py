@@ -19,6 +19,10 @@ INTERFACE = {
     "houses": ["House", "paths", "ends", "node_at", "weights_at", "rounds", "is_shaped", "hopeful", "begun"],
     "programs": ["Program"],
     "running": ["house_of"],
+    "speaking": ["spoken"],
+    "plans": ["is_plan", "is_between", "led", "passing"],
+    "joining": ["joined"],
+    "referees": ["is_test", "paid"],
 }
 
 

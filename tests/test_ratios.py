@@ -3,7 +3,8 @@
 import unittest
 
 from tellsless.ratios import (
-    added, are_shares, divided, is_chance, is_fraction, is_number, is_share, multiplied, reduced, total,
+    added, are_chances, are_fractions, are_shares, divided, is_chance, is_fraction, is_number, is_prior, is_share,
+    multiplied, reduced, scaled_weights, total, total_weights,
 )
 from tests.things import HALF, NOUGHT, ONE, strange
 
@@ -26,6 +27,22 @@ class Judged(unittest.TestCase):
         for things in ((), (HALF,), (HALF, HALF, HALF), (ONE, NOUGHT), ((3, 2), (-1, 2)), (ONE, None)):
             self.assertFalse(are_shares(things))
 
+    def test_tuples(self):
+        rows = [
+            # As many fractions, chances, a prior of two worlds.
+            ((HALF, HALF), True, True, True),
+            ((NOUGHT, ONE), True, True, True),
+            ((HALF, NOUGHT), True, True, False),
+            ((HALF, ONE), True, True, False),
+            (((3, 2), (-1, 2)), True, False, False),
+            ((HALF, (2, 4)), False, False, False),
+            ([HALF, HALF], False, False, False),
+            ((ONE,), False, False, False),
+            ((HALF, HALF, NOUGHT), False, False, False),
+        ]
+        for thing, *flags in rows + [(thing, False, False, False) for thing in strange()]:
+            self.assertEqual([are_fractions(thing, 2), are_chances(thing, 2), is_prior(thing, 2)], flags)
+
     def test_integers(self):
         self.assertTrue(is_number(1, 1, 5))
         self.assertTrue(is_number(5, 1, 5))
@@ -44,6 +61,15 @@ class Reckoned(unittest.TestCase):
         self.assertEqual(divided((1, 3), (2, 3)), HALF)
         self.assertEqual(total([]), NOUGHT)
         self.assertEqual(total([HALF, (1, 3), (1, 6)]), ONE)
+        for many in range(1, 20):
+            self.assertEqual(total(((1, 3),) * many), reduced(many, 3))
+            self.assertEqual(total([(number, 1) for number in range(many)]), (many * (many - 1) // 2, 1))
+
+    def test_weights(self):
+        self.assertEqual(scaled_weights(HALF, (ONE, HALF, NOUGHT)), (HALF, (1, 4), NOUGHT))
+        self.assertEqual(total_weights([], 3), (NOUGHT,) * 3)
+        self.assertEqual(total_weights([(ONE, HALF)], 2), (ONE, HALF))
+        self.assertEqual(total_weights([(HALF, NOUGHT), ((1, 3), ONE), ((1, 6), NOUGHT)], 2), (ONE, ONE))
 
 
 if __name__ == "__main__":

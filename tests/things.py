@@ -1,5 +1,7 @@
 """Things that several tests use."""
 
+from fractions import Fraction
+
 from tellsless.errors import HouseError
 from tellsless.houses import House
 from tellsless.programs import Program
@@ -41,3 +43,92 @@ def chain(links, node=()):
 def even(many, node=(), worlds=1):
     """A question with so many answers of the same chance."""
     return tuple(((number,), ((1, many),) * worlds if many > 1 else (ONE,) * worlds, node) for number in range(many))
+
+
+def split(dice, whole, parts, great=False):
+    """A chance, divided by chance into so many chances that add up to it; some of them are NOUGHT."""
+    if whole == 0:
+        return [Fraction(0)] * parts
+    most = 10 ** 29 if great else 4
+    rows = [dice.randrange(most) for _ in range(parts)]
+    rows[dice.randrange(parts)] += 1
+    return [whole * Fraction(row, sum(rows)) for row in rows]
+
+
+def pair(number):
+    """The fraction as the package writes it."""
+    return (number.numerator, number.denominator)
+
+
+def made_up_node(dice, ahead, deep, questions, answers, great=False):
+    """A node by chance: so deep at most, with at most so many questions and answers at each place."""
+    if deep == 0:
+        return ()
+    node = []
+    for _ in range(dice.randrange(questions + 1)):
+        many = dice.randrange(1, answers + 1)
+        weights = list(zip(*[split(dice, chance, many, great) for chance in ahead]))
+        node.append(tuple(
+            ((number,) * number, tuple(map(pair, row)), made_up_node(dice, row, deep - 1, questions, answers, great))
+            for number, row in enumerate(weights)
+        ))
+    return tuple(node)
+
+
+def made_up_house(dice, worlds, deep=3, questions=2, answers=3, great=False):
+    """A house by chance, often with hopeless answers."""
+    return House(worlds, made_up_node(dice, [Fraction(1)] * worlds, deep, questions, answers, great))
+
+
+def made_up_wait(dice, waiting, stand):
+    """A wait at a node of the other house, by chance, for who stands at a node of the house."""
+    return tuple(made_up_move(dice, question, stand) for question in waiting)
+
+
+def made_up_move(dice, question, stand):
+    """A move for a question, by chance."""
+    if stand and dice.randrange(3):
+        asked = dice.randrange(len(stand))
+        return ("ask", asked, tuple(made_up_move(dice, question, answer[2]) for answer in stand[asked]))
+    told = dice.randrange(len(question))
+    return ("tell", told, made_up_wait(dice, question[told][2], stand))
+
+
+def made_up_between(dice, house, other, most=3):
+    """A go-between by chance, of at most so many plans."""
+    shares = [share for share in split(dice, Fraction(1), dice.randrange(1, most + 1)) if share]
+    return tuple((pair(share), made_up_wait(dice, other.tree, house.tree)) for share in shares)
+
+
+def made_up_table(dice, node, worlds):
+    """The table of a test at a node, by chance."""
+    chances = split(dice, Fraction(dice.randrange(4), 3), len(node)) if node else []
+    return tuple(
+        (pair(chance), tuple(
+            (tuple(pair(Fraction(dice.randrange(-9, 10), dice.randrange(1, 7))) for _ in range(worlds)),
+             made_up_table(dice, answer[2], worlds))
+            for answer in question
+        ))
+        for chance, question in zip(chances, node)
+    )
+
+
+def made_up_test(dice, house):
+    """A test shaped like a house, by chance."""
+    prior = tuple(map(pair, split(dice, Fraction(1), house.worlds)))
+    return (prior, made_up_table(dice, house.tree, house.worlds))
+
+
+def spoiled(thing, beyond=(-1000, 99)):
+    """Things made of tuples, strings and numbers that are each wrong in just one place; beyond are wrong numbers."""
+    if isinstance(thing, tuple):
+        yield from (list(thing), thing + ((),), thing + (thing[:1] or ((),)), None, 0, "", [thing], (thing, thing, thing))
+        if thing:
+            yield from (thing[:-1], thing[1:])
+        for place, inner in enumerate(thing):
+            for other in spoiled(inner, beyond):
+                yield thing[:place] + (other,) + thing[place + 1:]
+    elif isinstance(thing, str):
+        yield from (thing + " ", thing.upper(), thing.encode(), "", "stop", None, 0, (thing,), [thing])
+    else:
+        yield from beyond + (True, False, None, str(thing), b"1", (thing,), [thing])
