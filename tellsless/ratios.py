@@ -1,6 +1,6 @@
 """Integers and fractions: judged, and reckoned with exactly."""
 
-from math import gcd
+from math import gcd, lcm
 
 NOUGHT = (0, 1)
 ONE = (1, 1)
@@ -79,9 +79,43 @@ def multiplied(first, second):
     return reduced(first[0] * second[0], first[1] * second[1])
 
 
+def lessened(first, second, third):
+    """The first fraction without the product of the other two."""
+    top = second[0] * third[0]
+    bottom = second[1] * third[1]
+    return reduced(first[0] * bottom - top * first[1], first[1] * bottom)
+
+
 def divided(first, second):
     """The first fraction divided by the second one, which is above NOUGHT."""
     return reduced(first[0] * second[1], first[1] * second[0])
+
+
+def is_less(first, second):
+    """Whether the first fraction is less than the second one."""
+    return first[0] * second[1] < second[0] * first[1]
+
+
+def greatest_of(fractions):
+    """The number of the greatest fraction of a list or tuple that is not empty; of equal ones, of the first."""
+    best = 0
+    for number, fraction in enumerate(fractions):
+        if is_less(fractions[best], fraction):
+            best = number
+    return best
+
+
+def common_bottom(fractions):
+    """The least number that is a multiple of the bottoms of all fractions."""
+    bottom = 1
+    for fraction in fractions:
+        bottom = lcm(bottom, fraction[1])
+    return bottom
+
+
+def times_whole(fraction, whole):
+    """The integer that is a fraction times a multiple of its bottom."""
+    return fraction[0] * (whole // fraction[1])
 
 
 def total(fractions):

@@ -3,19 +3,7 @@
 from tellsless.courses import asked_crowd, seen_next, starting
 from tellsless.errors import NoInside, TooLarge
 from tellsless.houses import MOST_ANSWERS, MOST_ROUNDS, House, made_house
-
-
-class Room:
-    """How many answers a House that is being made may still get."""
-
-    def __init__(self):
-        self.left = MOST_ANSWERS
-
-    def fill(self, many):
-        """Uses so much of the room up."""
-        if many > self.left:
-            raise TooLarge()
-        self.left -= many
+from tellsless.room import Room
 
 
 def is_inside(program, thing):

@@ -23,7 +23,16 @@ INTERFACE = {
     "plans": ["is_plan", "is_between", "led", "passing"],
     "joining": ["joined"],
     "referees": ["is_test", "paid"],
+    "prices": ["best_paid", "prices", "are_prices", "is_against"],
+    "deciding": ["decided", "can_stand", "are_alike"],
+    "worths": ["asker_gets", "worth", "worth_unasked", "luck", "best_asker", "luckiest"],
+    "looks": ["parting", "is_look", "gathered", "kept_questions"],
+    "rooms": ["beside", "tossed", "hidden"],
+    "blurring": ["blurred"],
+    "tearing": ["torn"],
+    "vaults": ["Vault"],
 }
+METHODS = {"Vault": ["house", "lets", "wider", "refusal"]}
 
 
 def read(name):
@@ -108,6 +117,27 @@ class Language(unittest.TestCase):
             defined = [node.name for node in tree.body if isinstance(node, (ast.FunctionDef, ast.ClassDef))]
             for name in names:
                 self.assertIn(name, defined)
+
+    def test_methods_stand_in_their_class(self):
+        for name, tree in self.trees():
+            for node in tree.body:
+                if isinstance(node, ast.ClassDef) and node.name in METHODS:
+                    defined = [inner.name for inner in node.body if isinstance(inner, ast.FunctionDef)]
+                    for method in METHODS[node.name]:
+                        self.assertIn(method, defined, name)
+
+    def test_no_name_is_a_method_and_an_attribute(self):
+        methods, attributes = set(), set()
+        taken = {word for thing in ("", [], {}, 0, b"", set()) for word in dir(thing)}
+        for _, tree in self.trees():
+            for node in ast.walk(tree):
+                if isinstance(node, ast.ClassDef):
+                    methods |= {inner.name for inner in node.body if isinstance(inner, ast.FunctionDef)}
+                if isinstance(node, ast.Attribute) and isinstance(node.ctx, ast.Store):
+                    attributes.add(node.attr)
+        methods -= {"__init__", "__eq__"}
+        self.assertEqual(methods & attributes, set())
+        self.assertEqual((methods | attributes) & taken, set())
 
 
 if __name__ == "__main__":

@@ -1,6 +1,7 @@
 """Things that several tests use."""
 
 from fractions import Fraction
+from itertools import product
 
 from tellsless.errors import HouseError
 from tellsless.houses import House
@@ -132,3 +133,73 @@ def spoiled(thing, beyond=(-1000, 99)):
         yield from (thing + " ", thing.upper(), thing.encode(), "", "stop", None, 0, (thing,), [thing])
     else:
         yield from beyond + (True, False, None, str(thing), b"1", (thing,), [thing])
+
+
+def all_waits(waiting, stand):
+    """All waits at a node of the other house of who stands at a node of the house."""
+    return list(product(*[all_moves(question, stand) for question in waiting]))
+
+
+def all_moves(question, stand):
+    """All moves for a question of who stands at a node of the house."""
+    moves = [("tell", told, wait) for told, answer in enumerate(question) for wait in all_waits(answer[2], stand)]
+    for asked, heard in enumerate(stand):
+        inner = [all_moves(question, answer[2]) for answer in heard]
+        moves.extend(("ask", asked, chosen) for chosen in product(*inner))
+    return moves
+
+
+def plans_many(waiting, stand):
+    """How many waits there are."""
+    many = 1
+    for question in waiting:
+        many *= moves_many(question, stand)
+    return many
+
+
+def moves_many(question, stand):
+    """How many moves there are."""
+    many = sum(plans_many(answer[2], stand) for answer in question)
+    for heard in stand:
+        inner = 1
+        for answer in heard:
+            inner *= moves_many(question, answer[2])
+        many += inner
+    return many
+
+
+def full_node(dice, ahead, deep, questions, answers, great=False):
+    """A node by chance with just so many questions and answers everywhere, so deep."""
+    if deep == 0:
+        return ()
+    node = []
+    for _ in range(questions):
+        weights = list(zip(*[split(dice, chance, answers, great) for chance in ahead]))
+        node.append(tuple(
+            ((number,), tuple(map(pair, row)), full_node(dice, row, deep - 1, questions, answers, great))
+            for number, row in enumerate(weights)
+        ))
+    return tuple(node)
+
+
+def full_house(dice, worlds, deep, questions, answers, great=False):
+    """A house by chance with just so many questions and answers everywhere, so deep."""
+    return House(worlds, full_node(dice, [Fraction(1)] * worlds, deep, questions, answers, great))
+
+
+def made_up_look(dice, worlds, answers=4, great=False):
+    """A look by chance, of at most so many answers."""
+    return full_house(dice, worlds, 1, 1, dice.randrange(1, answers + 1), great)
+
+
+def teller(worlds):
+    """The look that tells the world."""
+    return House(worlds, (tuple(
+        ((number,), tuple(ONE if world == number else NOUGHT for world in range(worlds)), ())
+        for number in range(worlds)
+    ),))
+
+
+def chance(fraction):
+    """The number for which a fraction of the package stands."""
+    return Fraction(*fraction)
