@@ -6,9 +6,7 @@ a world in which it never comes, so much is taken that it is never worth it.
 """
 
 from tellsless.errands import FREE, NEVER
-from tellsless.keyed import less
-from tellsless.ratios import NOUGHT, ONE, added, divided, is_less, lessened, multiplied, total
-from tellsless.weighing import gain_of_targets
+from tellsless.ratios import NOUGHT, ONE, added, divided, is_less, less, multiplied, total
 
 
 def nought_rows(question, worlds):
@@ -37,9 +35,9 @@ def fine_of(errand, rates):
     Above what the targets gain no plan gains more than all rates above NOUGHT, and one
     that tells such an answer does so with the least weight at least.
     """
-    most = total([(rate, 1) for rate in rates if rate > 0])
-    above = lessened(most, ONE, gain_of_targets(errand, rates))
-    return added(divided(above, least_weight(errand.ground)), ONE)
+    most = total([rate for rate in rates if rate[0] > 0])
+    gain = total([multiplied(rate, target) for rate, target in zip(rates, errand.targets)])
+    return added(divided(added(most, less(gain)), least_weight(errand.ground)), ONE)
 
 
 class Accuser:
@@ -91,7 +89,7 @@ class Accuser:
             return less(self.fine)
         if need == FREE:
             return NOUGHT
-        return (self.rates[need], 1)
+        return self.rates[need]
 
 
 def accusing(other, errand, rates):

@@ -5,49 +5,76 @@ from tellsless.dealing import Dealer
 from tellsless.errands import Errand, errands_of
 from tellsless.grounds import Ground
 from tellsless.houses import check_alike
-from tellsless.mixing import best_mixture
+from tellsless.mixing import Mixture
 from tellsless.plans import passing
 from tellsless.prices import prices
-from tellsless.ratios import NOUGHT
+from tellsless.ratios import NOUGHT, divided
+from tellsless.settling import settled_amounts
+
+FIRST_BITS = 256
+MOST_STEPS = 40
 
 
-def amounts_of(errand, mixture):
-    """How much of what is done where, as a dealer takes it."""
-    found = {}
-    for entry, amount in mixture.mixed().items():
-        if amount != NOUGHT:
+def amounts_of(errand, found):
+    """How much of what is done where, as a dealer takes it, from the amounts of all entries."""
+    amounts = {}
+    for entry, amount in found.items():
+        if amount > 0:
             turn, doing = entry
             question, place = errand.turns[turn]
             path, number = errand.places[question]
             word, which, _, _ = errand.doings[turn][doing]
-            found.setdefault((path, number, place), {})[(word, which)] = amount
-    return found
+            key = (path, number, place)
+            if key not in amounts:
+                amounts[key] = {}
+            amounts[key][(word, which)] = amount
+    return amounts
 
 
 def outcome(errand):
-    """What comes of an errand: a pair of the amounts by which it is done and of None, or of None and of rates."""
+    """What comes of an errand: a pair (amounts, None) by which it is done, or (None, rates) at which it fails.
+
+    The amounts are a pair: those of all entries, and the whole of which they are parts.
+    """
     if errand.begin is None:
-        return (None, [0] * len(errand.targets))
-    mixture = best_mixture(errand)
-    if mixture.against is None:
-        return (amounts_of(errand, mixture), None)
-    return (None, mixture.against)
+        return (None, [NOUGHT] * len(errand.targets))
+    bits = FIRST_BITS
+    steps = MOST_STEPS * (1 + len(errand.targets))
+    while True:
+        mixture = Mixture(errand, bits)
+        mixture.run(steps)
+        if mixture.against is not None:
+            return (None, [divided((rate, 1), target) for rate, target in zip(mixture.against, errand.targets)])
+        found = settled_amounts(mixture)
+        if found is not None:
+            return (found, None)
+        # Rounding led astray.
+        bits = 4 * bits
+        steps = 4 * steps
 
 
 def outcomes(ground, other):
     """What comes of all errands to another house from a ground, one after another, until one fails.
 
-    A triple: all amounts; the errand that fails; its rates. None stands for what is not there.
+    A triple: pairs of all errands and their amounts; the errand that fails; its rates.
+    None stands for what is not there.
     """
-    amounts = {}
+    done = []
     for path, number, question in errands_of(ground, (), other.tree):
         errand = Errand(ground, path, number, question)
-        done, rates = outcome(errand)
-        if done is None:
+        found, rates = outcome(errand)
+        if found is None:
             return (None, errand, rates)
-        for key, doings in done.items():
-            amounts[key] = doings
-    return (amounts, None, None)
+        done.append((errand, found))
+    return (done, None, None)
+
+
+def dealt(house, other, ground, done):
+    """The go-between from a house to another one that does all errands by the amounts that were found."""
+    dealer = Dealer(house, other, ground)
+    for errand, (found, whole) in done:
+        dealer.put(amounts_of(errand, found), whole)
+    return dealer.deal()
 
 
 def decided(house, other):
@@ -56,9 +83,9 @@ def decided(house, other):
     if house == other:
         return ("between", passing(house))
     ground = Ground(house)
-    amounts, errand, rates = outcomes(ground, other)
+    done, errand, rates = outcomes(ground, other)
     if errand is None:
-        return ("between", Dealer(house, other, ground, amounts).deal())
+        return ("between", dealt(house, other, ground, done))
     test = accusing(other, errand, rates)
     return ("against", test, prices(house, other, test))
 

@@ -11,7 +11,7 @@ by which an answer would come in a world in which it never does, and those that 
 where nothing else is left.
 """
 
-from tellsless.ratios import NOUGHT, are_nought, common_bottom, times_whole
+from tellsless.ratios import NOUGHT, are_nought
 from tellsless.silence import is_silent
 
 FREE = -1
@@ -37,14 +37,6 @@ def gains_of(weights, needs):
     return [(need, weight) for weight, need in zip(weights, needs) if weight != NOUGHT and need >= 0]
 
 
-def scaled_doings(doings, whole):
-    """The doings at a turn as they are weighed: pairs of the turns behind, and of gains times a whole number."""
-    return [
-        (behind, [(row, times_whole(gain, whole)) for row, gain in gains])
-        for _, _, behind, gains in doings
-    ]
-
-
 class Errand:
     """All turns of an errand, numbered so that those behind a turn come ahead of it."""
 
@@ -61,9 +53,6 @@ class Errand:
         self.turns = []
         self.doings = []
         self.begin = self.turn(0, 0)
-        bottoms = [gain[1] for doings in self.doings for doing in doings for gain in doing[3]]
-        self.whole = common_bottom(bottoms)
-        self.whole_doings = [scaled_doings(doings, self.whole) for doings in self.doings]
 
     def take(self, path, number, question):
         """Takes in a question at the node behind a path, and those behind it; tells what number it has here."""

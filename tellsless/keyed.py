@@ -1,35 +1,25 @@
 """Keys: one doing at each turn of an errand that is come to, which is done if nothing else is said there."""
 
-from tellsless.ratios import NOUGHT, ONE, added, lessened
-
-LESS = (-1, 1)
-
-
-def less(fraction):
-    """A fraction with the other sign."""
-    return (-fraction[0], fraction[1])
-
 
 def put_gains(row, sign, gains):
-    """Adds pairs of a place and a fraction to a row, with a sign."""
-    taken = less(sign)
+    """Adds pairs of a place and parts to a row, with a sign."""
     for place, gain in gains:
-        row[place] = lessened(row.get(place, NOUGHT), taken, gain)
+        row[place] = row.get(place, 0) + sign * gain
 
 
 class Keyed:
-    """The keys of an errand: a dict of turns, with the numbers of the doings that are the keys there.
+    """The keys of an errand, by its figures: a dict of turns, with the numbers of the doings that are the keys there.
 
-    An ENTRY is a pair: a turn and the number of a doing there.
+    An ENTRY is a pair: a turn and the number of a doing there. Amounts are integers.
     """
 
-    def __init__(self, errand):
-        self.errand = errand
-        self.chosen = {}
+    def __init__(self, figures, chosen):
+        self.figures = figures
+        self.chosen = chosen
 
     def behind(self, entry):
         """The turns to which an entry leads."""
-        return self.errand.doings[entry[0]][entry[1]][2]
+        return self.figures.doings[entry[0]][entry[1]][0]
 
     def key_at(self, turn):
         """The key at a turn, as an entry."""
@@ -46,7 +36,7 @@ class Keyed:
 
     def forget(self, entries):
         """Forgets the keys of turns to which neither keys nor some entries lead."""
-        waiting = [self.errand.begin]
+        waiting = [self.figures.begin]
         for entry in entries:
             waiting.append(entry[0])
             waiting.extend(self.behind(entry))
@@ -63,20 +53,26 @@ class Keyed:
         waiting = [begin]
         while len(waiting) > 0:
             turn = waiting.pop()
-            _, _, behind, gains = self.errand.doings[turn][self.chosen[turn]]
+            behind, gains = self.figures.doings[turn][self.chosen[turn]]
             put_gains(row, sign, gains)
             waiting.extend(behind)
 
+    def lacks(self):
+        """What is lacking of the targets if nothing but the keys is done, in parts."""
+        met = {}
+        self.follow(self.figures.begin, 1, met)
+        return [target - met.get(place, 0) for place, target in enumerate(self.figures.targets)]
+
     def effects_of(self, entry):
-        """What it does to the targets if an entry takes the place of the key at its turn: a row."""
+        """What it does to the targets if an entry takes the place of the key at its turn: a row of parts."""
         turn, doing = entry
         row = {}
-        _, _, behind, gains = self.errand.doings[turn][doing]
-        put_gains(row, ONE, gains)
+        behind, gains = self.figures.doings[turn][doing]
+        put_gains(row, 1, gains)
         for inner in behind:
-            self.follow(inner, ONE, row)
-        self.follow(turn, LESS, row)
-        return {place: effect for place, effect in row.items() if effect != NOUGHT}
+            self.follow(inner, 1, row)
+        self.follow(turn, -1, row)
+        return {place: effect for place, effect in row.items() if effect != 0}
 
     def amounts_of_keys(self, begins, parts):
         """The amounts of the keys if so much begins, and parts of what comes are done otherwise.
@@ -86,12 +82,12 @@ class Keyed:
         others = {}
         for entry, amount in parts:
             others.setdefault(entry[0], []).append((entry, amount))
-        come = {self.errand.begin: begins}
+        come = {self.figures.begin: begins}
         found = {}
         for turn in sorted(self.chosen, reverse=True):
-            amount = come.get(turn, NOUGHT)
+            amount = come.get(turn, 0)
             for entry, part in others.get(turn, []):
-                amount = lessened(amount, ONE, part)
+                amount -= part
                 self.lead(entry, part, come)
             found[turn] = amount
             self.lead(self.key_at(turn), amount, come)
@@ -99,9 +95,9 @@ class Keyed:
 
     def lead(self, entry, amount, come):
         """Adds the amount of an entry to what comes to the turns behind it."""
-        if amount != NOUGHT:
+        if amount != 0:
             for inner in self.behind(entry):
-                come[inner] = added(come.get(inner, NOUGHT), amount)
+                come[inner] = come.get(inner, 0) + amount
 
     def passing(self, turn):
         """For each turn with a key how often who follows the keys from there on comes to a turn: 1 or 0."""

@@ -1,4 +1,4 @@
-"""Mixtures: how much of what is done at each turn, so that all targets of an errand are met.
+"""Mixtures: how much of what is done at each turn, so that all targets of an errand are met, but for next to nothing.
 
 The amounts of the doings are ONE in all at the turn at which the errand begins, and at
 each other turn as much as leads there. By how much a target is missed is the amount of
@@ -13,166 +13,149 @@ settle what leaves, the rows do, as if each target were above itself by next to 
 a later one by much less: so no standing comes twice. The RATES tell how the lacks, all
 together, grow with each target.
 
-Great fractions are rounded to so many bits: then what is found has to be tried.
+All numbers are rounded: integers that count parts of which ONE has 1 << bits. What is no
+more than TINY counts as nothing. What is found so has to be tried.
 """
 
-from tellsless.keyed import LESS, Keyed, less
+from tellsless.figures import near_figures
+from tellsless.keyed import Keyed
 from tellsless.likeness import passing_doings
 from tellsless.nearing import Nearing
-from tellsless.ratios import NOUGHT, ONE, divided, greatest_of, is_less, lessened, multiplied, reduced, total
-from tellsless.weighing import are_beyond, weighed, whole_rates
+from tellsless.weighing import are_beyond, slim_rates, weighed
 
-FIRST_BITS = 400
-STEPS_ALONE = 30
-NEARING_STEPS = 4
-
-
-def rounded(fraction, bits):
-    """A fraction itself, or one near to it if it needs more than so many bits; NOUGHT if it is next to nothing."""
-    top, bottom = fraction
-    many = bottom.bit_length()
-    if many <= bits // 2:
-        return fraction
-    if abs(top) << (bits // 2) < bottom:
-        return NOUGHT
-    if many <= bits + 1:
-        return fraction
-    return reduced((top << bits) // bottom, 1 << bits)
+STEPS_ALONE = 8
+NEARING_STEPS = 16
+MOST_TRIED = 20
 
 
-def inverse_of(fraction):
-    """ONE divided by a fraction that is not NOUGHT."""
-    if fraction[0] < 0:
-        return (-fraction[1], -fraction[0])
-    return (fraction[1], fraction[0])
-
-
-def product_of(row, other):
-    """The sum of the products of the fractions at the same places of two rows."""
-    return total([multiplied(fraction, other[place]) for place, fraction in row.items() if place in other])
+def sign_of(number):
+    """1, or -1 for a number below 0."""
+    if number < 0:
+        return -1
+    return 1
 
 
 class Mixture:
-    """Keys, extras and their amounts, as the simplex method changes them; bits are None if nothing is rounded."""
+    """Keys, extras and their amounts, as the simplex method changes them."""
 
-    def __init__(self, keyed, bits):
-        self.keyed = keyed
+    def __init__(self, errand, bits):
+        self.errand = errand
         self.bits = bits
-        self.is_rough = False
+        self.tiny = 1 << bits // 2
+        self.figures = near_figures(errand, bits)
+        self.keyed = self.first_keys()
         self.extras = []
         self.rows = []
         self.amounts = []
         self.rates = []
+        # The sign with which the lack of each target counts.
+        self.signs = []
         self.against = None
         self.nearing = None
-        self.start(keyed.errand)
+        self.start()
 
-    def start(self, errand):
+    def first_keys(self):
+        """The keys with which an errand begins: a plan alone, which passes on what it can."""
+        bests = weighed(self.figures, [1] * len(self.figures.targets), {})[0]
+        for turn, doing in enumerate(passing_doings(self.errand)):
+            if doing is not None:
+                bests[turn] = doing
+        keyed = Keyed(self.figures, {})
+        keyed.visit([self.figures.begin], bests)
+        return keyed
+
+    def start(self):
         """Lets the extras be the lacks that the keys leave."""
-        met = {}
-        self.keyed.follow(errand.begin, ONE, met)
-        for place, target in enumerate(errand.targets):
-            lack = lessened(target, ONE, met.get(place, NOUGHT))
-            sign = ONE
-            if lack[0] < 0:
-                sign = LESS
+        for place, lack in enumerate(self.keyed.lacks()):
+            sign = sign_of(lack)
+            row = [0] * len(self.figures.targets)
+            row[place] = sign << self.bits
             self.extras.append(None)
-            self.rows.append({place: sign})
-            self.amounts.append(multiplied(sign, lack))
-            self.rates.append(sign)
+            self.rows.append(row)
+            self.amounts.append(abs(lack))
+            self.rates.append(row[place])
+            self.signs.append(sign)
 
-    def run(self):
+    def run(self, most):
         """Makes the lacks less until there are none, or until rates, kept as against, show that some must stay.
 
-        If fractions were rounded it may also give up.
+        It gives up after so many steps.
         """
-        steps = 0
-        left = 100 + 40 * len(self.extras)
-        while not self.is_met() and left > 0:
-            rates = whole_rates(self.rates)
-            self.against = self.shown(rates, steps)
-            if self.against is not None:
+        for step in range(most):
+            if self.is_met():
                 return
-            _, bests, turn = weighed(self.keyed.errand, rates, self.keyed.chosen)
-            if turn is None or not self.enter((turn, bests[turn]), bests):
+            bests, _, excesses = weighed(self.figures, self.rates, self.keyed.chosen)
+            entry = self.entering(bests, excesses)
+            if entry is None or step % STEPS_ALONE == 0:
+                self.show(step)
+            if entry is None or self.against is not None or not self.enter(entry):
                 return
-            steps += 1
-            left -= int(self.is_rough)
 
-    def shown(self, rates, steps):
-        """Rates that show that some lacks must stay; None if none do so far.
+    def entering(self, bests, excesses):
+        """The entry that is to enter, one of the best doings; None if none makes the lacks less.
 
-        If many steps have been done already, they are looked for on another way, too: where
+        Of those that gain most the one is taken that gains most for what it does to all
+        targets: so there are fewer steps.
+        """
+        least = self.tiny << self.bits
+        best = 0
+        found = None
+        for excess, turn in sorted(excesses, reverse=True)[:MOST_TRIED]:
+            if excess > least:
+                entry = (turn, bests[turn])
+                self.keyed.visit(self.keyed.behind(entry), bests)
+                effects = self.keyed.effects_of(entry)
+                gain = excess * excess // (1 + sum([effect * effect for effect in effects.values()]))
+                if found is None or gain > best:
+                    best = gain
+                    found = entry
+        return found
+
+    def show(self, step):
+        """Looks for rates that show that some lacks must stay.
+
+        If some steps have been done already, they are looked for on another way, too: where
         much lacks it is often the shorter one.
         """
-        errand = self.keyed.errand
-        if are_beyond(errand, rates):
-            return rates
-        if steps < STEPS_ALONE:
-            return None
-        if self.nearing is None:
-            self.nearing = Nearing(errand)
-        return self.nearing.steps(NEARING_STEPS)
+        rates = None
+        if are_beyond(self.figures, self.rates):
+            rates = self.rates
+        elif step > 0:
+            if self.nearing is None:
+                self.nearing = Nearing(self.errand)
+            rates = self.nearing.steps(NEARING_STEPS)
+        if rates is not None:
+            self.against = slim_rates(self.figures, rates)
 
     def is_met(self):
-        """Whether all targets are met."""
-        return all([extra is not None or amount == NOUGHT for extra, amount in zip(self.extras, self.amounts)])
+        """Whether nothing is lacking."""
+        return all([
+            extra is not None or abs(amount) <= self.tiny
+            for extra, amount in zip(self.extras, self.amounts)
+        ])
 
     def parts(self, amounts):
         """The entries among the extras, with their amounts in a list of those of all extras."""
         return [(extra, amount) for extra, amount in zip(self.extras, amounts) if extra is not None]
 
-    def key_amounts(self):
-        """The amounts of the keys."""
-        return self.keyed.amounts_of_keys(ONE, self.parts(self.amounts))
-
-    def mixed(self):
-        """All amounts: a dict of entries."""
-        found = {self.keyed.key_at(turn): amount for turn, amount in self.key_amounts().items()}
-        for entry, amount in self.parts(self.amounts):
-            found[entry] = amount
-        return found
-
-    def near(self, fraction):
-        """A fraction itself, or one that is near to it if it is too fine."""
-        if self.bits is None:
-            return fraction
-        found = rounded(fraction, self.bits)
-        if found != fraction:
-            self.is_rough = True
-        return found
-
-    def put_scaled(self, row, times, other):
-        """Adds to a row the product of a fraction and another row; NOUGHTs are left out."""
-        taken = less(times)
-        for place, fraction in other.items():
-            row[place] = self.near(lessened(row.get(place, NOUGHT), taken, fraction))
-            if row[place] == NOUGHT:
-                del row[place]
-
-    def scaled(self, times, other):
-        """The product of a fraction and a row."""
-        row = {}
-        self.put_scaled(row, times, other)
-        return row
-
-    def falls(self, effects):
-        """By how much each extra falls if something with some effects enters."""
-        return [self.near(product_of(effects, row)) for row in self.rows]
-
-    def enter(self, entry, bests):
+    def enter(self, entry):
         """Lets an entry enter, as much of it as can be, and something leave; tells whether something could."""
-        self.keyed.visit(self.keyed.behind(entry), bests)
         effects = self.keyed.effects_of(entry)
         falls = self.falls(effects)
         ways = self.ways_out(entry, falls)
         if len(ways) == 0:
             return False
-        way, row = self.leaving(ways)
-        self.change(effects, falls, row, way[0])
+        way = self.leaving(ways)
+        step, fall, is_key, number = way
+        row = [(growth << self.bits) // fall for growth in self.row_of(is_key, number)]
+        self.change(effects, falls, row, step)
         self.settle(way, entry, row)
         self.keyed.forget([extra for extra in self.extras if extra is not None])
         return True
+
+    def falls(self, effects):
+        """By how much each extra falls if something with some effects enters."""
+        return [sum([effect * row[place] for place, effect in effects.items()]) >> self.bits for row in self.rows]
 
     def ways_out(self, entry, falls):
         """All that could leave if an entry enters, by which the extras fall so.
@@ -182,69 +165,62 @@ class Mixture:
         of an extra. A key beside which nothing is done at its turn stays: with it falls
         something that leads there.
         """
-        ways = [
-            (self.near(divided(self.amounts[number], fall)), fall, False, number)
-            for number, fall in enumerate(falls)
-            if fall[0] > 0
-        ]
-        amounts = self.key_amounts()
-        changing = self.parts([less(fall) for fall in falls]) + [(entry, ONE)]
-        changes = self.keyed.amounts_of_keys(NOUGHT, changing)
+        ways = []
+        for number, fall in enumerate(falls):
+            if fall > self.tiny:
+                ways.append((self.step_to(self.amounts[number], fall), fall, False, number))
+        amounts = self.keyed.amounts_of_keys(1 << self.bits, self.parts(self.amounts))
+        changing = self.parts([-fall for fall in falls]) + [(entry, 1 << self.bits)]
+        changes = self.keyed.amounts_of_keys(0, changing)
         for turn in sorted(set([extra[0] for extra, _ in changing])):
-            fall = self.near(less(changes[turn]))
-            if fall[0] > 0:
-                ways.append((self.near(divided(amounts[turn], fall)), fall, True, turn))
+            if -changes[turn] > self.tiny:
+                ways.append((self.step_to(amounts[turn], -changes[turn]), -changes[turn], True, turn))
         return ways
 
+    def step_to(self, amount, fall):
+        """How much can enter until an amount is used up, which falls so."""
+        return (max(0, amount) << self.bits) // fall
+
     def leaving(self, ways):
-        """Of all that could leave what does, and its row divided by its fall."""
-        least = ways[greatest_of([less(way[0]) for way in ways])][0]
-        best = None
-        best_row = {}
-        for way in ways:
-            if way[0] == least:
-                row = self.fallen_row(way)
-                if best is None or self.is_below(row, best_row):
-                    best = way
-                    best_row = row
-        return (best, best_row)
-
-    def fallen_row(self, way):
-        """The row of something that could leave, divided by its fall."""
-        _, fall, is_key, number = way
-        if is_key:
-            return self.scaled(inverse_of(fall), self.key_row(number))
-        return self.scaled(inverse_of(fall), self.rows[number])
-
-    def is_below(self, row, other):
-        """Whether a row is less than another one at the first place at which they are unlike."""
+        """Of all that could leave what does."""
+        least = min([way[0] for way in ways])
+        ways = [way for way in ways if way[0] <= least + self.tiny]
+        if len(ways) == 1:
+            return ways[0]
+        rows = [self.row_of(is_key, number) for _, _, is_key, number in ways]
         for place in range(len(self.rows)):
-            first = row.get(place, NOUGHT)
-            second = other.get(place, NOUGHT)
-            if first != second:
-                return is_less(first, second)
-        return False
+            growths = [(row[place] << self.bits) // way[1] for way, row in zip(ways, rows)]
+            least = min(growths) + self.tiny
+            rows = [row for row, growth in zip(rows, growths) if growth <= least]
+            ways = [way for way, growth in zip(ways, growths) if growth <= least]
+        return ways[0]
+
+    def row_of(self, is_key, number):
+        """How something that could leave grows with each target."""
+        if is_key:
+            return self.key_row(number)
+        return self.rows[number]
 
     def key_row(self, turn):
         """How the amount of the key at a turn grows with each target: by the extras that lead there, or elsewhere."""
         passing = self.keyed.passing(turn)
-        row = {}
+        row = [0] * len(self.rows)
         for extra, extra_row in zip(self.extras, self.rows):
             if extra is not None:
                 times = sum([passing[behind] for behind in self.keyed.behind(extra)]) - passing[extra[0]]
                 if times != 0:
-                    self.put_scaled(row, (times, 1), extra_row)
+                    row = [growth + times * more for growth, more in zip(row, extra_row)]
         return row
 
     def change(self, effects, falls, row, step):
         """Changes all extras and the rates by a step of something that enters, which gets a row."""
-        gain = total([multiplied(self.rates[place], effect) for place, effect in effects.items()])
+        bits = self.bits
+        gain = sum([self.rates[place] * effect for place, effect in effects.items()]) >> bits
+        self.rates = [rate - (gain * growth >> bits) for rate, growth in zip(self.rates, row)]
         for number, fall in enumerate(falls):
-            if fall != NOUGHT:
-                self.put_scaled(self.rows[number], less(fall), row)
-                self.amounts[number] = self.near(lessened(self.amounts[number], fall, step))
-        for place, fraction in row.items():
-            self.rates[place] = self.near(lessened(self.rates[place], gain, fraction))
+            if fall != 0:
+                self.rows[number] = [old - (fall * growth >> bits) for old, growth in zip(self.rows[number], row)]
+                self.amounts[number] -= fall * step >> bits
 
     def settle(self, way, entry, row):
         """Lets an entry take the place of what leaves, as a key or as an extra with a row."""
@@ -256,75 +232,6 @@ class Mixture:
             place = [extra is not None and extra[0] == number for extra in self.extras].index(True)
             self.keyed.chosen[number] = self.extras[place][1]
             number = place
-        self.put(number, entry, row, step)
-
-    def put(self, number, entry, row, step):
-        """Puts an entry, with a row and an amount, in the place of an extra."""
         self.extras[number] = entry
         self.rows[number] = row
         self.amounts[number] = step
-
-    def adopt(self, entry):
-        """Lets an entry take the place of a lack, whatever the amounts become; tells whether it could."""
-        effects = self.keyed.effects_of(entry)
-        falls = self.falls(effects)
-        for number, fall in enumerate(falls):
-            if self.extras[number] is None and fall != NOUGHT:
-                times = inverse_of(fall)
-                row = self.scaled(times, self.rows[number])
-                step = multiplied(times, self.amounts[number])
-                self.change(effects, falls, row, step)
-                self.put(number, entry, row, step)
-                return True
-        return False
-
-    def is_right(self):
-        """Whether all targets are met, by amounts none of which is below NOUGHT."""
-        if not self.is_met() or any([amount[0] < 0 for amount in self.amounts]):
-            return False
-        return not any([amount[0] < 0 for amount in self.key_amounts().values()])
-
-
-def started(errand, bits):
-    """The mixture with which an errand begins: a plan alone, which passes on what it can, and what it lacks."""
-    keyed = Keyed(errand)
-    bests = weighed(errand, whole_rates(errand.targets), {})[1]
-    for turn, doing in enumerate(passing_doings(errand)):
-        if doing is not None:
-            bests[turn] = doing
-    keyed.visit([errand.begin], bests)
-    return Mixture(keyed, bits)
-
-
-def tried(mixture):
-    """The mixture of the same keys and extras, with nothing rounded; None if there is none that is right."""
-    found = Mixture(mixture.keyed, None)
-    for entry, _ in mixture.parts(mixture.amounts):
-        if not found.adopt(entry):
-            return None
-    if not found.is_right():
-        return None
-    return found
-
-
-def attempt(errand, bits):
-    """A mixture that meets all targets of an errand, or has rates against that; None if rounding led astray."""
-    mixture = started(errand, bits)
-    mixture.run()
-    if mixture.against is not None:
-        return mixture
-    if not mixture.is_met():
-        return None
-    if mixture.is_rough:
-        return tried(mixture)
-    return mixture
-
-
-def best_mixture(errand):
-    """A mixture that meets all targets of an errand, or has rates against that."""
-    bits = FIRST_BITS
-    found = attempt(errand, bits)
-    while found is None:
-        bits = 4 * bits
-        found = attempt(errand, bits)
-    return found

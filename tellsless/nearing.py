@@ -3,11 +3,11 @@
 In each step the plan is sought that goes farthest in the direction of the targets, and as
 much of it is mixed in as comes nearest to them. If not even that plan goes as far as
 the targets, the direction is one of rates at which nobody gains so much. All numbers are
-rounded, but the rates that are told are tried exactly.
+rounded, but that the rates show it is judged for sure.
 """
 
-from tellsless.ratios import is_less
-from tellsless.weighing import gain_of_targets, weighed
+from tellsless.figures import near_figures
+from tellsless.weighing import are_beyond, weighed, worth_of_targets
 
 FINE = 60
 
@@ -18,32 +18,32 @@ def product_sum(row, other):
 
 
 class Nearing:
-    """A mixture of plans, of which only is kept how far it meets each target: a whole number of small parts."""
+    """A mixture of plans, of which only is kept how much of each target it meets, in parts."""
 
     def __init__(self, errand):
-        self.errand = errand
-        self.goal = [(top << FINE) // bottom for top, bottom in errand.targets]
-        self.stand = self.met_by(weighed(errand, self.goal, {})[1])
+        self.figures = near_figures(errand, FINE)
+        self.stand = self.met_by(weighed(self.figures, self.figures.targets, {})[0])
 
     def met_by(self, bests):
-        """How far the plan that does what is best everywhere meets each target."""
-        met = [0] * len(self.goal)
-        waiting = [self.errand.begin]
+        """How much of each target the plan that does what is best everywhere meets."""
+        met = [0] * len(self.figures.targets)
+        waiting = [self.figures.begin]
         while len(waiting) > 0:
             turn = waiting.pop()
-            behind, gains = self.errand.whole_doings[turn][bests[turn]]
+            behind, gains = self.figures.doings[turn][bests[turn]]
             for row, gain in gains:
-                met[row] += (gain << FINE) // self.errand.whole
+                met[row] += gain
             waiting.extend(behind)
         return met
 
     def step(self):
         """Goes a step nearer; tells rates at which no plan gains as much as the targets do, None if none show."""
-        rates = [goal - stand for goal, stand in zip(self.goal, self.stand)]
-        worths, bests, _ = weighed(self.errand, rates, {})
-        if is_less((worths[self.errand.begin], self.errand.whole), gain_of_targets(self.errand, rates)):
+        rates = [target - stand for target, stand in zip(self.figures.targets, self.stand)]
+        bests, worth, _ = weighed(self.figures, rates, {})
+        if worth < worth_of_targets(self.figures, rates) and are_beyond(self.figures, rates):
             return rates
-        way = [met - stand for met, stand in zip(self.met_by(bests), self.stand)]
+        met = self.met_by(bests)
+        way = [more - stand for more, stand in zip(met, self.stand)]
         far = product_sum(way, way)
         if far > 0:
             part = min(1 << FINE, max(0, (product_sum(rates, way) << FINE) // far))

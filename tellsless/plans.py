@@ -2,12 +2,13 @@
 
 A HOLDER is here a tuple (share, weights, stand, wait): all who hold one plan, which
 has a share, and stand behind one path of the house; the weights with which they
-stand there, the node of the house, and how they wait.
+stand there, the node of the house, and how they wait. Shares are integers, so many
+parts of a whole: great ones are added the faster so.
 """
 
 from tellsless.errors import NotBetween
 from tellsless.houses import check_alike, made_house
-from tellsless.ratios import ONE, are_nought, are_shares, is_number, scaled_weights, total_weights
+from tellsless.ratios import ONE, are_nought, are_shares, common_bottom, is_number, reduced, times_whole
 
 
 def is_wait(thing, waiting, stand):
@@ -80,16 +81,22 @@ def tellers_of(question, number, holders):
     return tellers
 
 
-def weights_of(holders, worlds):
-    """The chances, world by world, that somebody of some holders is come to."""
-    return total_weights([scaled_weights(share, weights) for share, weights, stand, wait in holders], worlds)
+def weight_of(holders, world, whole):
+    """The chance, in a world, that somebody of some holders is come to."""
+    parts = common_bottom([weights[world] for _, weights, _, _ in holders])
+    many = sum([share * times_whole(weights[world], parts) for share, weights, _, _ in holders])
+    return reduced(many, whole * parts)
 
 
-def led_node(node, worlds, holders):
+def led_node(node, worlds, holders, whole):
     """A node of the other house, with the weights with which holders, who wait there, answer behind it."""
     return tuple([
         tuple([
-            (answer[0], weights_of(tellers, worlds), led_node(answer[2], worlds, tellers))
+            (
+                answer[0],
+                tuple([weight_of(tellers, world, whole) for world in range(worlds)]),
+                led_node(answer[2], worlds, tellers, whole),
+            )
             for answer, tellers in zip(question, tellers_of(question, number, holders))
         ])
         for number, question in enumerate(node)
@@ -98,9 +105,10 @@ def led_node(node, worlds, holders):
 
 def led_house(house, other, between):
     """The House that a go-between makes in the place of another one."""
+    whole = common_bottom([share for share, _ in between])
     ahead = (ONE,) * house.worlds
-    holders = [(share, ahead, house.tree, plan) for share, plan in between]
-    return made_house(other.worlds, led_node(other.tree, other.worlds, holders))
+    holders = [(times_whole(share, whole), ahead, house.tree, plan) for share, plan in between]
+    return made_house(other.worlds, led_node(other.tree, other.worlds, holders, whole))
 
 
 def led(house, other, between):

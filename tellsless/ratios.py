@@ -86,6 +86,11 @@ def lessened(first, second, third):
     return reduced(first[0] * bottom - top * first[1], first[1] * bottom)
 
 
+def less(fraction):
+    """A fraction with the other sign."""
+    return (-fraction[0], fraction[1])
+
+
 def divided(first, second):
     """The first fraction divided by the second one, which is above NOUGHT."""
     return reduced(first[0] * second[1], first[1] * second[0])
@@ -119,17 +124,9 @@ def times_whole(fraction, whole):
 
 
 def total(fractions):
-    """The sum of all fractions of a list or tuple.
-
-    They are added by pairs, and their sums again: so great numbers come late, and are few.
-    """
-    sums = list(fractions)
-    while len(sums) > 1:
-        pairs = [added(first, second) for first, second in zip(sums[::2], sums[1::2])]
-        sums = pairs + sums[2 * len(pairs):]
-    if len(sums) == 0:
-        return NOUGHT
-    return sums[0]
+    """The sum of all fractions of a list or tuple, put in lowest terms once alone."""
+    whole = common_bottom(fractions)
+    return reduced(sum([times_whole(fraction, whole) for fraction in fractions]), whole)
 
 
 def added_weights(first, second):

@@ -1,9 +1,7 @@
-"""What the turns of an errand are worth at some RATES: what a unit of each target gains, perhaps below NOUGHT.
+"""What the turns of an errand are worth at some RATES: what a part of each target gains, perhaps below NOUGHT.
 
-Rates are weighed as integers, all times one number: only which worths are above others counts.
+Rates are integers: only which worths are above others counts.
 """
-
-from tellsless.ratios import common_bottom, is_less, multiplied, times_whole, total
 
 
 def worths_of(doings, rates, worths):
@@ -19,41 +17,64 @@ def worths_of(doings, rates, worths):
     return found
 
 
-def weighed(errand, rates, settled):
-    """What all turns are worth if at some a doing is settled, and at all others the best is done.
+def weighed(figures, rates, settled):
+    """What is best at all turns if at some a doing is settled, and at all others the best is done.
 
-    A triple: the worths; at each turn the number of the best doing; and the turn at
-    which the best doing is above the settled one by most, None if none is.
+    A triple: at each turn the number of the best doing; what the begin is worth; and
+    pairs (excess, turn) for the turns at which the best is worth more than what is settled.
     """
     worths = []
     bests = []
-    most = 0
-    found = None
-    for turn, doings in enumerate(errand.whole_doings):
+    excesses = []
+    for turn, doings in enumerate(figures.doings):
         row = worths_of(doings, rates, worths)
         worth = max(row)
         bests.append(row.index(worth))
         if turn in settled:
-            if worth - row[settled[turn]] > most:
-                most = worth - row[settled[turn]]
-                found = turn
+            excess = worth - row[settled[turn]]
+            if excess > 0:
+                excesses.append((excess, turn))
             worth = row[settled[turn]]
         worths.append(worth)
-    return (worths, bests, found)
+    return (bests, worths[figures.begin], excesses)
 
 
-def whole_rates(rates):
-    """Some rates, all times one number, as integers."""
-    whole = common_bottom(rates)
-    return [times_whole(rate, whole) for rate in rates]
+def worth_of_targets(figures, rates):
+    """What the targets are worth at some rates."""
+    return sum([rate * target for rate, target in zip(rates, figures.targets)])
 
 
-def gain_of_targets(errand, rates):
-    """What the targets gain at some rates, a fraction."""
-    return total([multiplied((rate, 1), target) for rate, target in zip(rates, errand.targets)])
+def high_worth(doings, rates, worths):
+    """What the best doing at a turn is worth at some rates at most, whatever was rounded down of its gains."""
+    found = []
+    for behind, gains in doings:
+        worth = 0
+        for row, gain in gains:
+            worth += max(rates[row] * gain, rates[row] * (gain + 1))
+        for turn in behind:
+            worth += worths[turn]
+        found.append(worth)
+    return max(found)
 
 
-def are_beyond(errand, rates):
-    """Whether at some rates no plan gains as much as the targets do, so that they cannot be met."""
-    worths = weighed(errand, rates, {})[0]
-    return is_less((worths[errand.begin], errand.whole), gain_of_targets(errand, rates))
+def are_beyond(figures, rates):
+    """Whether at some rates surely no plan gains as much as the targets do, so that they cannot be met.
+
+    The targets have to be exact, the gains may be rounded down by less than a part.
+    """
+    worths = []
+    for doings in figures.doings:
+        worths.append(high_worth(doings, rates, worths))
+    return worths[figures.begin] < worth_of_targets(figures, rates)
+
+
+def slim_rates(figures, rates):
+    """Rates of as few bits as still do, where some rates show that targets cannot be met."""
+    great = max([abs(rate) for rate in rates]).bit_length()
+    bits = 4
+    while bits < great:
+        slim = [rate >> (great - bits) for rate in rates]
+        if are_beyond(figures, slim):
+            return slim
+        bits = 2 * bits
+    return rates
