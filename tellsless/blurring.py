@@ -7,7 +7,7 @@ a mist have as many questions.
 
 from tellsless.errors import NoTable
 from tellsless.houses import made_house
-from tellsless.ratios import ONE, are_nought, are_shares, multiplied, scaled_weights, total_weights
+from tellsless.ratios import ONE, are_nought, are_shares, is_integral, multiplied, scaled_weights, total_weights
 from tellsless.room import Room
 from tellsless.trees import is_word
 
@@ -39,6 +39,13 @@ def are_told(thing):
     return are_shares([pair[0] for pair in thing]) and len(set([pair[1] for pair in thing])) == len(thing)
 
 
+def is_key(words, thing):
+    """Whether a thing is a word, or one of some words, which may be longer or have greater numbers."""
+    if is_word(thing):
+        return True
+    return isinstance(thing, tuple) and all([is_integral(number) for number in thing]) and thing in words
+
+
 def is_table(house, thing):
     """Whether a thing is a table by which a house can be blurred."""
     if not isinstance(thing, dict):
@@ -46,7 +53,7 @@ def is_table(house, thing):
     words = words_in(house.tree)
     if not all([word in thing for word in words]):
         return False
-    return all([(key in words or is_word(key)) and are_told(told) for key, told in thing.items()])
+    return all([is_key(words, key) and are_told(told) for key, told in thing.items()])
 
 
 def told_in(mist, number, table):

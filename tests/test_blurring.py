@@ -209,7 +209,8 @@ class NoTables(unittest.TestCase):
         self.wrong({})
 
     def test_keys_that_are_no_words(self):
-        for key in (None, 5, "a", "", b"a", (100,), (-1,), ("a",), ((0,),), (None,), NotImplemented, range(2), len, ((),)):
+        for key in (None, 5, "a", "", b"a", (100,), (-1,), ("a",), ((0,),), (None,), NotImplemented, range(2), len, ((),),
+                    nested(8), nested(119), (0,) * 9, ((0, 1),) * 3):
             self.wrong({**PLAIN, key: ((ONE, (5,)),)})
             self.wrong({key: ((ONE, (5,)),)}, NOTHING)
 
