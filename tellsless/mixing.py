@@ -95,14 +95,14 @@ class Mixture:
         """The entry that is to enter, one of the best doings; None if none makes the lacks less.
 
         Of those that gain most the one is taken that gains most for what it does to all
-        targets: so there are fewer steps.
+        targets: so there are fewer steps. An extra that seems to gain does so by rounding alone.
         """
         least = self.tiny << self.bits
         best = 0
         found = None
         for excess, turn in sorted(excesses, reverse=True)[:MOST_TRIED]:
-            if excess > least:
-                entry = (turn, bests[turn])
+            entry = (turn, bests[turn])
+            if excess > least and entry not in self.extras:
                 self.keyed.visit(self.keyed.behind(entry), bests)
                 effects = self.keyed.effects_of(entry)
                 gain = excess * excess // (1 + sum([effect * effect for effect in effects.values()]))

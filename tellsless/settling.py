@@ -95,8 +95,9 @@ class Settling:
             return None
         parts = self.mixture.parts(tops)
         found = {self.keyed.key_at(turn): top for turn, top in self.keyed.amounts_of_keys(bottom, parts).items()}
+        # If rounding led astray, an entry may be twice among them.
         for entry, top in parts:
-            found[entry] = top
+            found[entry] = found.get(entry, 0) + top
         if any([top < 0 for top in found.values()]):
             return None
         return (found, bottom)

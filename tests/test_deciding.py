@@ -35,6 +35,28 @@ def coin_of(top, bottom):
     return House(2, ((((0,), (right, wrong), ()), ((1,), (wrong, right), ())),))
 
 
+def rare_node(dice, ahead, deep):
+    """A node by chance, with answers that come with a chance of 1 of 10 ** 29, or 1 of 3, or otherwise."""
+    if deep == 0:
+        return ()
+    node = []
+    for _ in range(dice.randrange(3)):
+        many = dice.randrange(1, 4)
+        rows = []
+        for before in ahead:
+            part = Fraction(1, dice.choice((3, 10 ** 29)))
+            row = [Fraction(0)] * many
+            row[dice.randrange(many)] += before * part
+            row[dice.randrange(many)] += before * (1 - part)
+            # A House that is made by its name has numbers of at most 30 figures.
+            rows.append(row if all(weight.denominator < 10 ** 30 for weight in row) else [before] + [Fraction(0)] * (many - 1))
+        node.append(tuple(
+            ((number,), tuple(map(pair, weights)), rare_node(dice, weights, deep - 1))
+            for number, weights in enumerate(zip(*rows))
+        ))
+    return tuple(node)
+
+
 def small(house, other, most=1500):
     return len(paths(house)) * len(paths(other)) < most
 
@@ -191,6 +213,36 @@ class MainFact(unittest.TestCase):
             ((1,), (rest, rest), ()),
         ),))
         self.both(rare, twice, True, True)
+
+    def test_drawn_houses_of_very_small_chances(self):
+        for seed in range(250):
+            dice = random.Random(seed)
+            worlds = dice.randrange(1, 5)
+            house = House(worlds, rare_node(dice, [Fraction(1)] * worlds, dice.randrange(1, 4)))
+            other = House(worlds, rare_node(dice, [Fraction(1)] * worlds, dice.randrange(1, 4)))
+            if small(house, other):
+                self.check(house, other)
+                self.check(house, led(house, other, made_up_between(dice, house, other, 4)), True)
+                self.check(house, led(house, house, made_up_between(dice, house, house, 4)), True)
+
+    def test_a_house_in_which_much_is_rounded(self):
+        tiny, rest = Fraction(1, 10 ** 29), 1 - Fraction(1, 10 ** 29)
+        never, sure = (NOUGHT,) * 4, (NOUGHT, NOUGHT, pair(rest), NOUGHT)
+        twice = (((0,), sure, ()), ((1,), never, ()))
+        house = House(4, ((
+            ((0,), sure, (twice, twice)),
+            ((1,), (ONE, ONE, pair(tiny), ONE), ((
+                ((0,), (ONE, ONE, pair(tiny / 3), (1, 3)), ()),
+                ((1,), (NOUGHT, NOUGHT, pair(tiny * 2 / 3), (2, 3)), ()),
+            ),)),
+        ),))
+        first, second = (HALF, HALF, pair(tiny / 6), (1, 6)), (NOUGHT, NOUGHT, pair(tiny * 2 / 3), (2, 3))
+        last = (HALF, HALF, pair(1 - tiny * 5 / 6), (1, 6))
+        other = made_house(4, ((
+            ((0,), first, ((((0,), never, ()), ((1,), first, ())), (((0,), first, ()), ((1,), never, ())))),
+            ((1,), (HALF, HALF, pair(1 - tiny / 6), (5, 6)), ((((0,), second, ()), ((1,), last, ())),)),
+        ),))
+        self.check(house, other, True)
 
     def test_rounding_does_not_lead_astray(self):
         before = deciding.FIRST_BITS
