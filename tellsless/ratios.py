@@ -79,13 +79,6 @@ def multiplied(first, second):
     return reduced(first[0] * second[0], first[1] * second[1])
 
 
-def lessened(first, second, third):
-    """The first fraction without the product of the other two."""
-    top = second[0] * third[0]
-    bottom = second[1] * third[1]
-    return reduced(first[0] * bottom - top * first[1], first[1] * bottom)
-
-
 def less(fraction):
     """A fraction with the other sign."""
     return (-fraction[0], fraction[1])

@@ -2,7 +2,7 @@
 
 from tellsless.errors import NoShare, NotShaped, TooLarge
 from tellsless.houses import MOST_ANSWERS, MOST_ROUNDS, check_alike, is_shaped, made_house
-from tellsless.ratios import ONE, added_weights, is_share, lessened, multiplied_weights, scaled_weights
+from tellsless.ratios import ONE, added, added_weights, is_share, less, multiplied_weights, scaled_weights
 from tellsless.trees import standings
 
 
@@ -69,7 +69,7 @@ def check_part(thing):
 
 def rest_of(share):
     """What a share leaves of a whole."""
-    return lessened(ONE, ONE, share)
+    return added(ONE, less(share))
 
 
 def scaled_node(share, node):

@@ -3,10 +3,10 @@
 import unittest
 
 from tellsless.ratios import (
-    added, are_chances, are_fractions, are_shares, divided, is_chance, is_fraction, is_number, is_prior, is_share,
-    multiplied, reduced, scaled_weights, total, total_weights,
+    added, are_chances, are_fractions, are_shares, common_bottom, divided, greatest_of, is_chance, is_fraction, is_less,
+    is_number, is_prior, is_share, less, multiplied, reduced, scaled_weights, times_whole, total, total_weights,
 )
-from tests.things import HALF, NOUGHT, ONE, strange
+from tests.things import HALF, NOUGHT, ONE, chance, strange
 
 
 class Judged(unittest.TestCase):
@@ -64,6 +64,28 @@ class Reckoned(unittest.TestCase):
         for many in range(1, 20):
             self.assertEqual(total(((1, 3),) * many), reduced(many, 3))
             self.assertEqual(total([(number, 1) for number in range(many)]), (many * (many - 1) // 2, 1))
+
+    def test_signs_and_order(self):
+        self.assertEqual(less((2, 3)), (-2, 3))
+        self.assertEqual(less(NOUGHT), NOUGHT)
+        self.assertIs(is_less((1, 3), HALF), True)
+        self.assertIs(is_less((-1, 2), (-1, 3)), True)
+        self.assertIs(is_less(HALF, HALF), False)
+        self.assertIs(is_less(NOUGHT, (-1, 10 ** 29)), False)
+        self.assertEqual(greatest_of([HALF, (2, 3), NOUGHT, (2, 3)]), 1)
+        self.assertEqual(greatest_of([(-1, 2)]), 0)
+
+    def test_whole_numbers(self):
+        self.assertEqual(common_bottom([]), 1)
+        self.assertEqual(common_bottom([(1, 6), (3, 4), ONE]), 12)
+        self.assertEqual(times_whole((3, 4), 12), 9)
+        self.assertEqual(times_whole((-1, 6), 12), -2)
+
+    def test_great_sums(self):
+        rows = [(1, 10 ** 29 + number) for number in range(300)]
+        rows = [reduced(top, bottom) for top, bottom in rows]
+        self.assertEqual(chance(total(rows)), sum(map(chance, rows)))
+        self.assertEqual(total(rows + [less(row) for row in rows]), NOUGHT)
 
     def test_weights(self):
         self.assertEqual(scaled_weights(HALF, (ONE, HALF, NOUGHT)), (HALF, (1, 4), NOUGHT))
