@@ -5,8 +5,8 @@ by equal chances what belongs to it. The rates are paid; but where an answer is 
 a world in which it never comes, so much is taken that it is never worth it.
 """
 
-from tellsless.errands import FREE, NEVER
 from tellsless.ratios import NOUGHT, ONE, added, divided, is_less, less, multiplied, total
+from tellsless.turns import FREE, NEVER
 
 
 def nought_rows(question, worlds):

@@ -3,32 +3,17 @@
 from tellsless.accusing import accusing
 from tellsless.dealing import Dealer
 from tellsless.errands import Errand, errands_of
+from tellsless.figures import whole_figures
 from tellsless.grounds import Ground
 from tellsless.houses import check_alike
-from tellsless.mixing import Mixture
 from tellsless.plans import passing
 from tellsless.prices import prices
 from tellsless.ratios import NOUGHT, divided
+from tellsless.refuting import Refuting
 from tellsless.settling import settled_amounts
 
 FIRST_BITS = 256
 MOST_STEPS = 40
-
-
-def amounts_of(errand, found):
-    """How much of what is done where, as a dealer takes it, from the amounts of all entries."""
-    amounts = {}
-    for entry, amount in found.items():
-        if amount > 0:
-            turn, doing = entry
-            question, place = errand.turns[turn]
-            path, number = errand.places[question]
-            word, which, _, _ = errand.doings[turn][doing]
-            key = (path, number, place)
-            if key not in amounts:
-                amounts[key] = {}
-            amounts[key][(word, which)] = amount
-    return amounts
 
 
 def outcome(errand):
@@ -41,13 +26,14 @@ def outcome(errand):
     bits = FIRST_BITS
     steps = MOST_STEPS * (1 + len(errand.targets))
     while True:
-        mixture = Mixture(errand, bits)
-        mixture.run(steps)
-        if mixture.against is not None:
-            return (None, [divided((rate, 1), target) for rate, target in zip(mixture.against, errand.targets)])
-        found = settled_amounts(mixture)
-        if found is not None:
-            return (found, None)
+        refuting = Refuting(errand, bits)
+        refuting.run(steps)
+        if refuting.against is not None:
+            return (None, [divided((rate, 1), target) for rate, target in zip(refuting.against, errand.targets)])
+        if refuting.mixture.is_met():
+            found = settled_amounts(refuting.mixture, whole_figures(errand))
+            if found is not None:
+                return (found, None)
         # Rounding led astray.
         bits = 4 * bits
         steps = 4 * steps
@@ -73,7 +59,7 @@ def dealt(house, other, ground, done):
     """The go-between from a house to another one that does all errands by the amounts that were found."""
     dealer = Dealer(house, other, ground)
     for errand, (found, whole) in done:
-        dealer.put(amounts_of(errand, found), whole)
+        dealer.put(errand.amounts_of(found), whole)
     return dealer.deal()
 
 

@@ -1,21 +1,14 @@
 """Errands: one question of the other house, and those behind its answers, for who stands at the tree of a house.
 
-At a TURN a question of the other house is due, and the holder stands at a place of
-the ground. A DOING at a turn is a tuple (word, number, turns, gains): "tell" and the
-number of an answer, or "ask" and the number of a question of the house; the turns
-to all of which it leads, each with the next question or answer; and by how much it
-helps to meet targets. TARGETS are the weights that have to be met: row by row one
-for an answer and a world. Left out are what is met if all others are (in each world
-the last answer that comes), questions that tell nothing (dice answer them), doings
-by which an answer would come in a world in which it never does, and those that lead
-where nothing else is left.
+TARGETS are the weights that have to be met: row by row one for an answer and a world.
+Left out are what is met if all others are (in each world the last answer that comes),
+questions that tell nothing (dice answer them), doings by which an answer would come in
+a world in which it never does, and those that lead where nothing else is left.
 """
 
 from tellsless.ratios import NOUGHT, are_nought
 from tellsless.silence import is_silent
-
-FREE = -1
-NEVER = -2
+from tellsless.turns import FREE, NEVER, Turns
 
 
 def last_likely(question, world):
@@ -27,18 +20,8 @@ def last_likely(question, world):
     return last
 
 
-def may_tell(weights, needs):
-    """Whether an answer may be told where some weights stand: it comes in all worlds in which one stands there."""
-    return all([weight == NOUGHT or need != NEVER for weight, need in zip(weights, needs)])
-
-
-def gains_of(weights, needs):
-    """By how much telling an answer, where some weights stand, helps to meet targets: pairs (row, fraction)."""
-    return [(need, weight) for weight, need in zip(weights, needs) if weight != NOUGHT and need >= 0]
-
-
 class Errand:
-    """All turns of an errand, numbered so that those behind a turn come ahead of it."""
+    """All turns of an errand, and the targets that their doings help to meet."""
 
     def __init__(self, ground, path, number, question):
         self.ground = ground
@@ -49,10 +32,12 @@ class Errand:
         self.told_weights = []
         self.targets = []
         self.take(path, number, question)
-        self.numbers = {}
-        self.turns = []
-        self.doings = []
-        self.begin = self.turn(0, 0)
+        # The gains in each row are reckoned by its target.
+        self.units = self.targets
+        self.walks = Turns(ground, self.answers)
+        self.turns = self.walks.turns
+        self.doings = self.walks.doings
+        self.begin = self.walks.begin
 
     def take(self, path, number, question):
         """Takes in a question at the node behind a path, and those behind it; tells what number it has here."""
@@ -93,42 +78,9 @@ class Errand:
         self.targets.append(weight)
         return len(self.targets) - 1
 
-    def turn(self, question, place):
-        """The number of a turn; None if nothing can be done there."""
-        if (question, place) not in self.numbers:
-            doings = self.tellings(question, place) + self.askings(question, place)
-            self.numbers[(question, place)] = self.numbered(question, place, doings)
-        return self.numbers[(question, place)]
-
-    def numbered(self, question, place, doings):
-        """The number that a turn gets, behind those to which its doings lead; None if there are no doings."""
-        if len(doings) == 0:
-            return None
-        self.turns.append((question, place))
-        self.doings.append(doings)
-        return len(self.doings) - 1
-
-    def tellings(self, question, place):
-        """What can be told at a turn."""
-        weights = self.ground.place_weights[place]
-        found = []
-        for number, needs, behind in self.answers[question]:
-            if may_tell(weights, needs):
-                turns = [self.turn(inner, place) for inner in behind]
-                if None not in turns:
-                    found.append(("tell", number, turns, gains_of(weights, needs)))
-        return found
-
-    def askings(self, question, place):
-        """What can be asked at a turn; nothing if there is one answer alone: what is asked later helps as much."""
-        if len(self.answers[question]) == 1:
-            return []
-        found = []
-        for number, heard in self.ground.place_questions[place]:
-            turns = [self.turn(question, inner) for _, inner in heard]
-            if None not in turns:
-                found.append(("ask", number, turns, []))
-        return found
+    def amounts_of(self, found):
+        """How much of what is done where, as a dealer takes it, from the amounts of all entries."""
+        return self.walks.amounts_of(self.places, found)
 
 
 def errands_of(ground, path, node):

@@ -1,7 +1,8 @@
-"""Figures: what is gained at the turns of an errand, reckoned in integers.
+"""Figures: what is gained at turns, reckoned in integers.
 
-Each target is a number of PARTS; of whole figures they are such that all gains are
-whole, of near ones each target is the same power of two, and the gains are rounded down.
+In each row there are UNITS: what counts as much there. Each unit is a number of PARTS; of
+whole figures they are such that all gains are whole, of near ones each unit is the
+same power of two, and the gains are rounded down.
 """
 
 from math import lcm
@@ -10,21 +11,25 @@ from tellsless.ratios import times_whole
 
 
 class Figures:
-    """The turn at which an errand begins, the doings at all turns, and the parts of which the targets are.
+    """The turn at which one begins, the doings at all turns, the parts of the targets, and those of the units.
 
     Under the number of a turn stands a list of its doings, pairs of the turns behind
-    and of gains: pairs of the row of a target and of parts.
+    and of gains: pairs of a row and of parts. Behind the rows of the targets there may be
+    one row more: of what is paid.
     """
 
-    def __init__(self, begin, doings, targets):
+    def __init__(self, begin, doings, targets, units):
         self.begin = begin
         self.doings = doings
         self.targets = targets
+        self.units = units
 
 
 def whole_parts(errand):
-    """How many parts ONE has in each row, so that all gains and targets are whole."""
-    parts = [target[1] for target in errand.targets]
+    """How many parts ONE has in each row, so that all gains, targets and units are whole."""
+    parts = [unit[1] for unit in errand.units]
+    for row, target in enumerate(errand.targets):
+        parts[row] = lcm(parts[row], target[1])
     for doings in errand.doings:
         for _, _, _, gains in doings:
             for row, gain in gains:
@@ -38,29 +43,28 @@ def whole_gains(gains, parts):
 
 
 def whole_figures(errand):
-    """The figures of an errand in parts of which all gains and targets are whole numbers."""
+    """The figures of an errand in parts of which all gains, targets and units are whole numbers."""
     parts = whole_parts(errand)
     doings = [
         [(behind, whole_gains(gains, parts)) for _, _, behind, gains in found]
         for found in errand.doings
     ]
     targets = [times_whole(target, many) for target, many in zip(errand.targets, parts)]
-    return Figures(errand.begin, doings, targets)
+    units = [times_whole(unit, many) for unit, many in zip(errand.units, parts)]
+    return Figures(errand.begin, doings, targets, units)
 
 
-def near_gains(gains, targets, bits):
-    """Gains in parts of which each target has 1 << bits, rounded down."""
-    found = []
-    for row, (top, bottom) in gains:
-        target_top, target_bottom = targets[row]
-        found.append((row, (top * target_bottom << bits) // (bottom * target_top)))
-    return found
+def near_part(fraction, unit, bits):
+    """A fraction in parts of which a unit has 1 << bits, rounded down."""
+    return (fraction[0] * unit[1] << bits) // (fraction[1] * unit[0])
 
 
 def near_figures(errand, bits):
-    """The figures of an errand in parts of which each target has 1 << bits."""
+    """The figures of an errand in parts of which each unit has 1 << bits."""
+    units = errand.units
     doings = [
-        [(behind, near_gains(gains, errand.targets, bits)) for _, _, behind, gains in found]
+        [(behind, [(row, near_part(gain, units[row], bits)) for row, gain in gains]) for _, _, behind, gains in found]
         for found in errand.doings
     ]
-    return Figures(errand.begin, doings, [1 << bits] * len(errand.targets))
+    targets = [near_part(target, unit, bits) for target, unit in zip(errand.targets, units)]
+    return Figures(errand.begin, doings, targets, [1 << bits] * len(units))

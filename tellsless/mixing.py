@@ -1,30 +1,25 @@
-"""Mixtures: how much of what is done at each turn, so that all targets of an errand are met, but for next to nothing.
+"""Mixtures: how much of what is done at each turn, so that all targets are met, but for next to nothing.
 
-The amounts of the doings are ONE in all at the turn at which the errand begins, and at
-each other turn as much as leads there. By how much a target is missed is the amount of
-its LACK. The lacks are made less by the simplex method: at each turn that is come to
-one doing is the KEY; beside the keys there are as many EXTRAS as targets: entries that
-are no keys, or lacks (None). All else has the amount NOUGHT. The amounts of the keys
-follow from those of the extras. In each step an entry enters, and an extra or a key
-leaves.
+The amounts of the doings are ONE in all at the turn at which all begins, and at each other
+turn as much as leads there. By how much a target is missed is the amount of its LACK.
+The lacks are made less by the simplex method: at each turn that is come to one doing is
+the KEY; beside the keys there are as many EXTRAS as targets: entries that are no keys, or
+lacks (None). All else has the amount NOUGHT. The amounts of the keys follow from those
+of the extras. In each step an entry enters, and an extra or a key leaves.
 
 Each extra has a ROW: how its amount grows with each target. Where amounts alone do not
 settle what leaves, the rows do, as if each target were above itself by next to nothing,
 a later one by much less: so no standing comes twice. The RATES tell how the lacks, all
-together, grow with each target.
+together, grow with each target. Where something is paid, too, it counts against the
+lacks by a rate that stays, behind the others.
 
 All numbers are rounded: integers that count parts of which ONE has 1 << bits. What is no
 more than TINY counts as nothing. What is found so has to be tried.
 """
 
-from tellsless.figures import near_figures
 from tellsless.keyed import Keyed
-from tellsless.likeness import passing_doings
-from tellsless.nearing import Nearing
-from tellsless.weighing import are_beyond, slim_rates, weighed
+from tellsless.weighing import weighed
 
-STEPS_ALONE = 8
-NEARING_STEPS = 16
 MOST_TRIED = 20
 
 
@@ -36,60 +31,42 @@ def sign_of(number):
 
 
 class Mixture:
-    """Keys, extras and their amounts, as the simplex method changes them."""
+    """Keys, extras and their amounts, as the simplex method changes them.
 
-    def __init__(self, errand, bits):
-        self.errand = errand
+    It begins with some doings, one at each turn, as the keys. What is paid counts by a rate.
+    """
+
+    def __init__(self, figures, bits, begin, rate):
+        self.figures = figures
         self.bits = bits
         self.tiny = 1 << bits // 2
-        self.figures = near_figures(errand, bits)
-        self.keyed = self.first_keys()
+        self.keyed = Keyed(figures, {})
+        self.keyed.visit([figures.begin], begin)
         self.extras = []
         self.rows = []
         self.amounts = []
         self.rates = []
         # The sign with which the lack of each target counts.
         self.signs = []
-        self.against = None
-        self.nearing = None
-        self.start()
+        self.start(rate)
 
-    def first_keys(self):
-        """The keys with which an errand begins: a plan alone, which passes on what it can."""
-        bests = weighed(self.figures, [1] * len(self.figures.targets), {})[0]
-        for turn, doing in enumerate(passing_doings(self.errand)):
-            if doing is not None:
-                bests[turn] = doing
-        keyed = Keyed(self.figures, {})
-        keyed.visit([self.figures.begin], bests)
-        return keyed
-
-    def start(self):
+    def start(self, rate):
         """Lets the extras be the lacks that the keys leave."""
         for place, lack in enumerate(self.keyed.lacks()):
             sign = sign_of(lack)
-            row = [0] * len(self.figures.targets)
+            row = [0] * (len(self.figures.targets) + 1)
             row[place] = sign << self.bits
             self.extras.append(None)
             self.rows.append(row)
             self.amounts.append(abs(lack))
             self.rates.append(row[place])
             self.signs.append(sign)
+        self.rates.append(rate)
 
-    def run(self, most):
-        """Makes the lacks less until there are none, or until rates, kept as against, show that some must stay.
-
-        It gives up after so many steps.
-        """
-        for step in range(most):
-            if self.is_met():
-                return
-            bests, _, excesses = weighed(self.figures, self.rates, self.keyed.chosen)
-            entry = self.entering(bests, excesses)
-            if entry is None or step % STEPS_ALONE == 0:
-                self.show(step)
-            if entry is None or self.against is not None or not self.enter(entry):
-                return
+    def next_entry(self):
+        """The entry that is to enter next; None if none makes the lacks less."""
+        bests, _, excesses = weighed(self.figures, self.rates, self.keyed.chosen)
+        return self.entering(bests, excesses)
 
     def entering(self, bests, excesses):
         """The entry that is to enter, one of the best doings; None if none makes the lacks less.
@@ -110,22 +87,6 @@ class Mixture:
                     best = gain
                     found = entry
         return found
-
-    def show(self, step):
-        """Looks for rates that show that some lacks must stay.
-
-        If some steps have been done already, they are looked for on another way, too: where
-        much lacks it is often the shorter one.
-        """
-        rates = None
-        if are_beyond(self.figures, self.rates):
-            rates = self.rates
-        elif step > 0:
-            if self.nearing is None:
-                self.nearing = Nearing(self.errand)
-            rates = self.nearing.steps(NEARING_STEPS)
-        if rates is not None:
-            self.against = slim_rates(self.figures, rates)
 
     def is_met(self):
         """Whether nothing is lacking."""
@@ -204,7 +165,7 @@ class Mixture:
     def key_row(self, turn):
         """How the amount of the key at a turn grows with each target: by the extras that lead there, or elsewhere."""
         passing = self.keyed.passing(turn)
-        row = [0] * len(self.rows)
+        row = [0] * len(self.rates)
         for extra, extra_row in zip(self.extras, self.rows):
             if extra is not None:
                 times = sum([passing[behind] for behind in self.keyed.behind(extra)]) - passing[extra[0]]

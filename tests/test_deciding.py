@@ -8,13 +8,15 @@ from tellsless import deciding
 from tellsless.deciding import are_alike, can_stand, decided
 from tellsless.errors import NotAlike
 from tellsless.errands import Errand
+from tellsless.figures import whole_figures
 from tellsless.grounds import Ground
 from tellsless.houses import House, begun, hopeful, made_house, paths
-from tellsless.mixing import Mixture
 from tellsless.plans import is_between, led, passing
 from tellsless.prices import best_paid, is_against
 from tellsless.referees import paid
-from tellsless.settling import settled_amounts, simple_bottom
+from tellsless.refining import simple_bottom
+from tellsless.refuting import Refuting
+from tellsless.settling import settled_amounts
 from tests.things import (
     CLEAR, COIN, HALF, NOUGHT, ONE, chance, even, full_house, made_up_between, made_up_house, made_up_look, pair, teller,
 )
@@ -269,10 +271,11 @@ class MainFact(unittest.TestCase):
     def test_what_is_nearly_met_is_not_settled(self):
         # The first coin tells too little by 1 of 10 ** 29: with few bits that is not seen.
         less, more = coin_of(6 * 10 ** 28, 10 ** 29), coin_of(6 * 10 ** 28 + 1, 10 ** 29)
-        mixture = Mixture(Errand(Ground(less), (), 0, more.tree[0]), 64)
-        mixture.run(100)
-        self.assertTrue(mixture.is_met())
-        self.assertIs(settled_amounts(mixture), None)
+        errand = Errand(Ground(less), (), 0, more.tree[0])
+        refuting = Refuting(errand, 64)
+        refuting.run(100)
+        self.assertTrue(refuting.mixture.is_met())
+        self.assertIs(settled_amounts(refuting.mixture, whole_figures(errand)), None)
         self.both(less, more, False, True)
 
     def test_houses_that_functions_made(self):

