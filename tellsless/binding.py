@@ -26,7 +26,7 @@ SPREAD = 32
 def nudged(many, bits):
     """Targets next to NOUGHT, all unlike: so it is seldom that in a step two things could leave just as well."""
     return [
-        (place * STRIDE & (1 << SPREAD) - 1 | 1 << SPREAD) << bits - bits // NEARER - SPREAD
+        (place * STRIDE % (1 << SPREAD) + (1 << SPREAD)) << bits - bits // NEARER - SPREAD
         for place in range(many)
     ]
 

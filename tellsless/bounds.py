@@ -28,16 +28,15 @@ class Bounds:
     """What two holders do, each with a house of their own, who have to answer alike in the place of another house.
 
     Done are triples of a bond, the amounts of what is done, and the whole of which they are
-    parts. Heaps are a dict: under the pair of a
-    path of the other house and of a question of a bond it has, for each answer, a list of
-    the weights that are told, to be added. Taken is a dict with what is taken, for an answer of such a question,
-    from what the second holder is paid, and given to the first one, world by world.
+    parts. Heaps are a dict: under the pair of a path of the other house and of a question
+    of a bond it has, for each answer, a list of weights that are told, to be added. Taken is
+    a dict with what is taken, for each answer of such a question and world by world, from
+    what the second holder is paid, and given to the first one.
     """
 
     def __init__(self, first, second, other, test):
         self.holds = (first, second)
         self.other = other
-        self.test = test
         self.dues = dues_in(other, test)
         self.grounds = (Ground(first), Ground(second))
         self.heaps = {}

@@ -35,11 +35,17 @@ INTERFACE = {
     "disks": ["Disk"],
     "servers": ["Server"],
     "strangers": ["heard"],
+    "machines": ["Machine", "first_rounds", "parted"],
+    "mediators": ["is_mediator", "through", "is_lasting"],
+    "texts": ["house_text", "read_house"],
+    "sources": ["program_text", "read_program"],
+    "desks": ["Desk"],
 }
 METHODS = {
     "Vault": ["house", "lets", "wider", "refusal"],
     "Disk": ["cells", "write", "power", "written"],
     "Server": ["path", "hear"],
+    "Desk": ["tell", "undoable"],
 }
 
 
