@@ -2,7 +2,7 @@
 
 from tellsless.errors import BadMachine, NoNumber, NotAlike
 from tellsless.houses import made_house
-from tellsless.matches import least_parting
+from tellsless.contests import least_parting
 from tellsless.ratios import NOUGHT, ONE, added, are_nought, are_shares, is_number, multiplied, total
 from tellsless.room import Room
 

@@ -12,7 +12,7 @@ from tellsless.sources import program_text, read_program
 from tellsless.speaking import spoken
 from tests.test_running import Maker
 from tests.test_texts import fraction_of
-from tests.things import COIN, HALF, made_up_house, strange
+from tests.things import COIN, HALF, made_up_house, rearranged, strange, with_other_signs
 
 BODY = (
     ("set", 0, ("plus", ("number", 12), ("times", ("cell", 1), ("less", ("cell", 0), ("same", ("number", 0), ("cell", 2)))))),
@@ -312,25 +312,12 @@ class ReadProgram(unittest.TestCase):
         self.assertEqual(found(HEAD + "tell " + "+ " * 9000 + "1\n"), ("text", 4))
 
     def test_lines_left_out_twice_or_exchanged(self):
-        lines = TEXT.split("\n")[:-1]
-        for place in range(len(lines)):
-            texts = [lines[:place] + lines[place + 1:], lines[:place + 1] + lines[place:]]
-            for other in range(place):
-                row = list(lines)
-                row[place], row[other] = row[other], row[place]
-                texts.append(row)
-            for row in texts:
-                text = "\n".join(row) + "\n"
-                self.assertEqual(found(text), judged(text))
+        for text in rearranged(TEXT):
+            self.assertEqual(found(text), judged(text), text)
 
     def test_all_signs(self):
-        signs = "".join(chr(number) for number in range(32, 127)) + "\n"
-        for place in range(len(TEXT)):
-            texts = [TEXT[:place] + TEXT[place + 1:]]
-            for sign in signs:
-                texts += [TEXT[:place] + sign + TEXT[place:], TEXT[:place] + sign + TEXT[place + 1:]]
-            for text in texts:
-                self.assertEqual(found(text), judged(text), text)
+        for text in with_other_signs(TEXT):
+            self.assertEqual(found(text), judged(text), text)
 
     def test_texts_by_chance(self):
         kinds = set()

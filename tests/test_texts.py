@@ -10,7 +10,7 @@ from tellsless.houses import House, begun, made_house, paths
 from tellsless.rooms import beside
 from tellsless.tearing import torn
 from tellsless.texts import house_text, read_house
-from tests.things import CLEAR, COIN, HALF, NOUGHT, ONE, even, made_up_house, strange
+from tests.things import CLEAR, COIN, HALF, NOUGHT, ONE, even, made_up_house, rearranged, strange, with_other_signs
 
 LATE = House(2, (
     (((), (HALF, NOUGHT), ((((5, 0, 99), (HALF, NOUGHT), ()),), (((6,), ((1, 6), NOUGHT), ()), ((7,), ((1, 3), NOUGHT), ())))),
@@ -225,25 +225,12 @@ class ReadHouse(unittest.TestCase):
         self.assertEqual(found(text), ("house", (0,)))
 
     def test_lines_left_out_twice_or_exchanged(self):
-        lines = TEXT.split("\n")[:-1]
-        for place in range(len(lines)):
-            texts = [lines[:place] + lines[place + 1:], lines[:place + 1] + lines[place:]]
-            for other in range(place):
-                row = list(lines)
-                row[place], row[other] = row[other], row[place]
-                texts.append(row)
-            for row in texts:
-                text = "\n".join(row) + "\n"
-                self.assertEqual(found(text), judged(text))
+        for text in rearranged(TEXT):
+            self.assertEqual(found(text), judged(text), text)
 
     def test_all_signs(self):
-        signs = "".join(chr(number) for number in range(32, 127)) + "\n"
-        for place in range(len(TEXT)):
-            texts = [TEXT[:place] + TEXT[place + 1:]]
-            for sign in signs:
-                texts += [TEXT[:place] + sign + TEXT[place:], TEXT[:place] + sign + TEXT[place + 1:]]
-            for text in texts:
-                self.assertEqual(found(text), judged(text), text)
+        for text in with_other_signs(TEXT):
+            self.assertEqual(found(text), judged(text), text)
 
     def test_texts_by_chance(self):
         kinds = set()

@@ -203,3 +203,25 @@ def teller(worlds):
 def chance(fraction):
     """The number for which a fraction of the package stands."""
     return Fraction(*fraction)
+
+
+def rearranged(text):
+    """The texts in which one line lacks, stands twice, or has changed its place with another one."""
+    lines = text.split("\n")[:-1]
+    for place in range(len(lines)):
+        yield "\n".join(lines[:place] + lines[place + 1:]) + "\n"
+        yield "\n".join(lines[:place + 1] + lines[place:]) + "\n"
+        for other in range(place):
+            row = list(lines)
+            row[place], row[other] = row[other], row[place]
+            yield "\n".join(row) + "\n"
+
+
+def with_other_signs(text):
+    """The texts in which one sign lacks, is another one, or stands there in addition."""
+    signs = "".join(map(chr, range(32, 127))) + "\n"
+    for place in range(len(text)):
+        yield text[:place] + text[place + 1:]
+        for sign in signs:
+            yield text[:place] + sign + text[place:]
+            yield text[:place] + sign + text[place + 1:]

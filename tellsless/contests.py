@@ -1,4 +1,4 @@
-"""Matches: two machines side by side in one world, and by what rows of questions and words they part.
+"""Contests: two machines side by side in one world, and by what rows of questions and words they part.
 
 A STAND is a row with a number for each standing of the first machine, and then for each
 of the other one: how often, but for a multiple, one is there behind some questions and
@@ -13,7 +13,7 @@ from tellsless.spans import Span, are_apart, independent, plain
 
 
 def triples_of(machine, world, question, begin):
-    """All (word, share, standing) of a question in a world, with the standing ahead; the first one has a number."""
+    """All triples of a question in a world, each with its standing ahead; the standings are numbered from begin on."""
     return [
         (begin + standing, word, share, begin + after)
         for standing, questions in enumerate(machine.rows)
@@ -21,7 +21,7 @@ def triples_of(machine, world, question, begin):
     ]
 
 
-class Match:
+class Contest:
     """Two machines in one world.
 
     The levels are the rests, found as far as is asked for: at each length those that are no
@@ -32,10 +32,9 @@ class Match:
         first = len(machine.rows)
         second = len(other.rows)
         self.words = machine.words
-        self.questions = len(machine.rows[0])
         self.outset = [1] + [0] * (first - 1) + [1] + [0] * (second - 1)
         self.moves = {}
-        for question in range(self.questions):
+        for question in range(len(machine.rows[0])):
             triples = triples_of(machine, world, question, 0) + triples_of(other, world, question, first)
             for word in range(self.words):
                 self.moves[(question, word)] = self.moved([triple for triple in triples if triple[1] == word])
@@ -99,39 +98,39 @@ def part_anywhere(stands, rests):
     return any([are_apart(rows, others) for rows, others in zip(stands, rests)])
 
 
-def least_questions(matches, length):
+def least_questions(contests, length):
     """The least row of questions of a length behind which some words come with unlike chances."""
-    stands = [[match.outset] for match in matches]
+    stands = [[contest.outset] for contest in contests]
     questions = []
     for left in reversed(range(length)):
-        rests = [match.rests(left) for match in matches]
+        rests = [contest.rests(left) for contest in contests]
         question = 0
-        behind = stands_behind(matches, stands, question)
+        behind = stands_behind(contests, stands, question)
         while not part_anywhere(behind, rests):
             question += 1
-            behind = stands_behind(matches, stands, question)
+            behind = stands_behind(contests, stands, question)
         questions.append(question)
         stands = behind
     return tuple(questions)
 
 
-def stands_behind(matches, stands, question):
+def stands_behind(contests, stands, question):
     """In each world, the stands behind a question and whatever word."""
-    return [match.stands_behind(rows, question) for match, rows in zip(matches, stands)]
+    return [contest.stands_behind(rows, question) for contest, rows in zip(contests, stands)]
 
 
-def least_words(matches, questions):
+def least_words(contests, questions):
     """The least row of words that comes with unlike chances behind a row of questions."""
-    stands = [match.outset for match in matches]
-    rests = [match.rests_of(questions) for match in matches]
+    stands = [contest.outset for contest in contests]
+    rests = [contest.rests_of(questions) for contest in contests]
     words = []
     for place, question in enumerate(questions):
         left = [rows[place + 1] for rows in rests]
         word = 0
-        behind = [match.on(row, question, word) for match, row in zip(matches, stands)]
+        behind = [contest.on(row, question, word) for contest, row in zip(contests, stands)]
         while not part_anywhere([[row] for row in behind], left):
             word += 1
-            behind = [match.on(row, question, word) for match, row in zip(matches, stands)]
+            behind = [contest.on(row, question, word) for contest, row in zip(contests, stands)]
         words.append(word)
         stands = behind
     return tuple(words)
@@ -139,11 +138,11 @@ def least_words(matches, questions):
 
 def least_parting(machine, other):
     """The least of the shortest pairs (questions, words) by which two machines part; None if they never do."""
-    matches = [Match(machine, other, world) for world in range(machine.worlds)]
+    contests = [Contest(machine, other, world) for world in range(machine.worlds)]
     length = 0
-    while not any([match.is_parting() for match in matches]):
-        if not any([match.grow() for match in matches]):
+    while not any([contest.is_parting() for contest in contests]):
+        if not any([contest.grow() for contest in contests]):
             return None
         length += 1
-    questions = least_questions(matches, length)
-    return (questions, least_words(matches, questions))
+    questions = least_questions(contests, length)
+    return (questions, least_words(contests, questions))
