@@ -60,8 +60,9 @@ class Making(unittest.TestCase):
 
     def test_no_disk(self):
         for thing in strange():
-            with self.assertRaises(NoDisk):
-                Server(COIN, thing, 0, never)
+            if not isinstance(thing, Disk):
+                with self.assertRaises(NoDisk):
+                    Server(COIN, thing, 0, never)
 
     def test_right_disks(self):
         for world in (0, 1):

@@ -3,9 +3,13 @@
 from fractions import Fraction
 from itertools import product
 
+from tellsless.desks import Desk
+from tellsless.disks import Disk
 from tellsless.errors import HouseError
 from tellsless.houses import House
+from tellsless.machines import Machine
 from tellsless.programs import Program
+from tellsless.servers import Server
 
 ONE = (1, 1)
 NOUGHT = (0, 1)
@@ -29,6 +33,7 @@ def strange():
         None, True, False, NotImplemented, Ellipsis, 7, -1, 10 ** 29, "", "tell", b"", b"tell", bytearray(b"x"),
         [], [()], [[]], {}, {"a": 1}, {(0, 0): 1}, range(3), slice(1), memoryview(b"ab"), len, int, HouseError,
         HouseError(), iter([1]), (x for x in ()), {}.items(), COIN, House(1, ()), Program(1, 1, 0, ()),
+        Machine(1, 1, (((((0, ONE, 0),),),),)), Machine, Disk(), Desk(), Server(COIN, Disk(), 0, len), frozenset,
         (None,), (True, False), ("tell",), (b"tell", 1), ([],), ({},), (range(2),), (COIN,), (NotImplemented,),
         nested(119), nested(119, 5), [nested(118)], (0,) * 99999, [0] * 99999, ((),) * 99999,
     ]
