@@ -100,11 +100,9 @@ READERS = {"source": source_order, "run": run_order, "torn": torn_order, "worth"
 
 def order_in(line):
     """The order of a line without line feeds; None if it is none."""
-    verb, blank, rest = line.partition(" ")
+    verb, _, rest = line.partition(" ")
     if line == "undo":
         return ("undo", None, [], None)
-    if blank == "":
-        return None
     if verb == "house" or verb == "program":
         return text_order(verb, rest)
     if verb in PLAIN:

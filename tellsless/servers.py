@@ -6,18 +6,12 @@ from tellsless.houses import is_step, standing_at
 from tellsless.ratios import NOUGHT, common_bottom, divided, is_integral, is_number, times_whole
 
 
-def is_cell(thing):
-    """Whether a thing is a pair of "said" and an integer."""
-    if not isinstance(thing, tuple) or len(thing) != 2 or not isinstance(thing[0], str):
-        return False
-    return thing[0] == "said" and is_integral(thing[1])
-
-
 def are_numbered(cells):
     """Whether the cells are just ("said", 0), ("said", 1) and so on."""
-    if not all([is_cell(cell) for cell in cells]):
+    if not all([("said", number) in cells for number in range(len(cells))]):
         return False
-    return all([("said", number) in cells for number in range(len(cells))])
+    # Flags are equal to 0 and 1, but no numbers.
+    return all([is_integral(cell[1]) for cell in cells])
 
 
 def said_in(cells):

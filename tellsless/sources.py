@@ -95,7 +95,7 @@ def statement_of(line):
         return put_behind(numbered(name, words[1:2]), expression_of(words[2:]))
     if name == "toss" and len(words) > 1:
         return put_behind(numbered(name, words[1:2]), rows_of(words[2:]))
-    if name == "hear" and len(words) > 3:
+    if name == "hear":
         begun = put_behind(numbered(name, words[1:2]), expression_of(words[2:-1]))
         return put_behind(begun, number_of(words[-1], MOST_FIGURES))
     if name == "if" or name == "tell":

@@ -161,7 +161,7 @@ class ReadHouse(unittest.TestCase):
 
     def test_the_first_line(self):
         for line in ("", "worlds", "worlds ", "worlds  2", " worlds 2", "worlds 2 ", "Worlds 2", "world 2", "worlds 02", "worlds -2",
-                     "worlds 2/3", "worlds 2 2", "worlds x", "worlds " + "1" * 31, "0 - 1", "worlds2", "worlds +2", "worlds 2.0"):
+                     "worlds 2/3", "worlds 2 2", "worlds x", "worlds " + "1" * 31, "0 - 1", "worlds2", "worlds +2", "worlds 2.0", "2", "s 2"):
             self.bad(1, line + "\n" + "\n".join(TEXT.split("\n")[1:]))
         for number in (0, 6, 10 ** 30 - 1):
             self.assertEqual(found(f"worlds {number}\n"), ("house", None))
