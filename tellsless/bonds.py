@@ -116,6 +116,10 @@ class Bond:
             for doings in self.doings
         ]
 
+    def no_rates(self):
+        """Rates at which nothing counts but what is paid."""
+        return [0] * len(self.targets) + [1]
+
     def amounts_of(self, holder, found):
         """How much a holder, 0 or 1, does where, as a dealer takes it, from the amounts of all entries."""
         ahead = len(self.first.doings)

@@ -83,19 +83,23 @@ class Errand:
         return self.walks.amounts_of(self.places, found)
 
 
-def errands_of(ground, path, node):
-    """The errands that are due at a node of the other house, to which one path leads, surely, in all worlds.
+def errands_at(ground, path, number, question):
+    """The errands that are due at a question of the other house, to which one path leads, surely, in all worlds.
 
     A list of triples (path, number, question), one for each. Where a question has one
     answer alone that can come, it is told at once: the errands are those behind it.
     """
-    sure = ground.place_weights[0]
+    likely = [place for place, answer in enumerate(question) if not are_nought(answer[1])]
+    if len(likely) == 1:
+        return errands_of(ground, path + ((number, likely[0]),), question[likely[0]][2])
+    if is_silent(question, ground.place_weights[0]):
+        return []
+    return [(path, number, question)]
+
+
+def errands_of(ground, path, node):
+    """The errands that are due at all questions of a node of the other house."""
     found = []
     for number, question in enumerate(node):
-        likely = [place for place, answer in enumerate(question) if not are_nought(answer[1])]
-        if len(likely) == 1:
-            behind = path + ((number, likely[0]),)
-            found.extend(errands_of(ground, behind, question[likely[0]][2]))
-        elif not is_silent(question, sure):
-            found.append((path, number, question))
+        found.extend(errands_at(ground, path, number, question))
     return found

@@ -3,8 +3,10 @@
 import random
 import unittest
 from fractions import Fraction
+from unittest.mock import patch
 
 from tellsless import binding
+from tellsless.agreeing import Agreement
 from tellsless.bounds import most_paid
 from tellsless.errors import NotAlike, NoTest
 from tellsless.houses import House, begun, is_shaped, made_house
@@ -197,6 +199,19 @@ class MostPaid(unittest.TestCase):
             house, other = [made_up_house(dice, worlds, 2, 2, 3) for _ in range(2)]
             for test in (made_up_test(dice, other), full_test(dice, other)):
                 self.assertEqual(self.check(house, house, other, test), best_paid(house, other, test))
+
+    def test_both_are_bound_even_where_one_alone_would_do(self):
+        with patch.object(Agreement, "lead", lambda agreement, holder, amounts: False):
+            for seed in range(60):
+                dice = random.Random(seed)
+                worlds = dice.randrange(1, 5)
+                first, second = [made_up_house(dice, worlds, dice.choice((1, 2, 2, 3)), 2, 3, seed % 5 == 0) for _ in range(2)]
+                other = made_up_house(dice, worlds, 2, 2, 3)
+                for test in (made_up_test(dice, other), full_test(dice, other)):
+                    self.check(first, second, other, test)
+                    self.assertEqual(self.check(first, first, other, test), best_paid(first, other, test))
+            self.assertEqual(self.check(COIN, CLEAR, CLEAR, GUESS), (3, 4))
+            self.assertEqual(self.check(CLEAR, NOTHING, CLEAR, GUESS), HALF)
 
     def test_few_bits_do_too(self):
         before = binding.FIRST_BITS
